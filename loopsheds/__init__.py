@@ -1,0 +1,1 @@
+"""Nests of loops over arrays, decided for all sizes."""

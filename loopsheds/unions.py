@@ -1,0 +1,119 @@
+"""Unions of closed tables, as lists of tables; no table at all has no solution."""
+
+from loopsheds.tables import fewest_of, hull_of, lies_in, met, tightened
+
+MANY = 40
+CROWD = 400
+
+
+def both_of(ones, others):
+    """The union of what two unions have in common."""
+    found = []
+    for one in ones:
+        for other in others:
+            table = met(one, other)
+            if table is not None:
+                found.append(table)
+    return found
+
+
+def cut_off(table, differences):
+    """The solutions of a table at which not all differences hold, no two tables with one in common."""
+    found = []
+    rest = table
+    for left, right, limit in differences:
+        part = tightened(rest, right, left, -limit - 1)
+        if part is not None:
+            found.append(part)
+        rest = tightened(rest, left, right, limit)
+        if rest is None:
+            return [table]
+    return found
+
+
+def subtracted(tables, others):
+    """What is in the first union and not in the second one; tables that were apart stay so."""
+    rest = tables
+    for other in others:
+        differences = fewest_of(other)
+        rest = [part for table in rest for part in cut_off(table, differences)]
+        if not rest:
+            return []
+    return rest
+
+
+def outside(tables):
+    """The union of all that is in none of the tables."""
+    return joined(subtracted([{}], absorbed(tables)))
+
+
+def parted(tables):
+    """The same union, no two tables with a solution in common."""
+    found = []
+    for at, table in enumerate(tables):
+        found.extend(subtracted([table], tables[:at]))
+    return found
+
+
+def absorbed(tables):
+    """The same union without tables that lie in another one."""
+    if len(tables) > CROWD:
+        return tables
+    found = []
+    for at, table in enumerate(tables):
+        if not _is_spare(table, found, tables[at + 1:]):
+            found.append(table)
+    return found
+
+
+def _is_spare(table, earlier, later):
+    """Whether a table lies in an earlier one that was kept, or in a later one."""
+    for outer in earlier:
+        if lies_in(table, outer):
+            return True
+    for outer in later:
+        if lies_in(table, outer):
+            return True
+    return False
+
+
+def joined(tables):
+    """The same union, with one table in the place of two where that can be."""
+    if len(tables) > MANY:
+        return tables
+    found = []
+    waiting = list(tables)
+    while waiting:
+        table = waiting.pop()
+        at, both = _partner(table, found)
+        if both is None:
+            found.append(table)
+        else:
+            found.pop(at)
+            waiting.append(both)
+    return found
+
+
+def _partner(table, others):
+    """The place of a table that makes one with this one, and that one; or None twice."""
+    differences = fewest_of(table)
+    for at, other in enumerate(others):
+        both = _one_of(table, differences, other)
+        if both is not None:
+            return at, both
+    return None, None
+
+
+def _one_of(table, differences, other):
+    """The table with exactly the solutions of two tables, or None if there is none."""
+    both = hull_of(table, other)
+    for left, right, limit in differences:
+        part = tightened(both, right, left, -limit - 1)
+        if part is not None and not lies_in(part, other):
+            return None
+    return both
+
+
+def simplified(tables):
+    """The same union with fewer tables where that is easily seen."""
+    return joined(absorbed(tables))
