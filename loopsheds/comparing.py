@@ -1,8 +1,8 @@
 """Comparing Counts: a point at which they differ, for all values of the names."""
 
+from loopsheds.atoms import highs_of, in_order, lows_of
 from loopsheds.errors import Unlike
 from loopsheds.polynomials import Poly
-from loopsheds.sums import highs_of, lows_of
 from loopsheds.tables import met, some_point, table_of, tightened, without
 from loopsheds.unions import subtracted
 
@@ -57,7 +57,7 @@ def _point_off_zero(table, poly, names):
         return point
     for low in lows_of(table, name):
         for high in highs_of(table, name):
-            part = _at_most(table, high, low, degree - 1)
+            part = in_order(table, high, low, 1 - degree)
             if part is not None:
                 point = _short_point(part, poly, names, (name, degree), low)
                 if point is not None:
@@ -114,11 +114,3 @@ def _short_point(table, poly, names, place, low):
                 values = {**point, "0": 0}
                 return {**point, name: values[side] + more}
     return None
-
-
-def _at_most(table, high, low, limit):
-    """The table where one atom minus another one is at most the limit, or None."""
-    gap = limit - high[1] + low[1]
-    if high[0] == low[0]:
-        return table if gap >= 0 else None
-    return tightened(table, high[0], low[0], gap)

@@ -183,7 +183,8 @@ def _written(formula):
         while inner[0] == word:
             names.append(inner[1])
             inner = inner[2]
-        return [f"{word} {' '.join(names)}: ", inner]
+        row = " ".join(names)
+        return [f"{word} {row}: ", inner]
     found = []
     for part in formula[1]:
         if found:

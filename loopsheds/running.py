@@ -25,8 +25,8 @@ class Play:
     """What a nest does with values: the log of its runs, and the last values of the written cells."""
 
     def __init__(self, log, cells):
-        self.log = log
-        self.cells = cells
+        self.log = list(log)
+        self.cells = {cell: cells[cell] for cell in cells}
 
 
 class Turn:

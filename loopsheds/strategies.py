@@ -1,10 +1,11 @@
 """Strategies: how the side that wins a formula chooses its values."""
 
+from loopsheds.atoms import highs_of, lows_of, with_greatest, with_least
 from loopsheds.deciding import tables_where
 from loopsheds.errors import BadFormula
 from loopsheds.formulas import KINDS, free_names
 from loopsheds.systems import holds_at
-from loopsheds.tables import fewest_of, tightened, without
+from loopsheds.tables import fewest_of, without
 from loopsheds.unions import outside, simplified
 
 
@@ -90,45 +91,12 @@ def _cases(tables, name):
     found = []
     for table in tables:
         rest = without(table, [name])
-        lows = [(base, -row[name]) for base, row in table.items() if base != name and name in row]
-        highs = [(base, limit) for base, limit in table.get(name, {}).items() if base != name]
+        lows = lows_of(table, name)
+        highs = highs_of(table, name)
+        parts = [(rest, ("0", 0))]
         if lows:
-            found.extend(_greatest(rest, lows))
+            parts = [(with_greatest(rest, low, lows[:at], lows[at + 1:]), low) for at, low in enumerate(lows)]
         elif highs:
-            found.extend(_greatest_below(rest, highs))
-        else:
-            found.append((fewest_of(rest), ("0", 0)))
+            parts = [(with_least(rest, high, highs[:at], highs[at + 1:]), high) for at, high in enumerate(highs)]
+        found.extend([(fewest_of(part), atom) for part, atom in parts if part is not None])
     return found
-
-
-def _greatest(table, atoms):
-    """A case for each atom that is somewhere the greatest one."""
-    found = []
-    for name, shift in atoms:
-        part = table
-        for other, more in atoms:
-            part = _not_above(part, other, more - shift, name)
-        if part is not None:
-            found.append((fewest_of(part), (name, shift)))
-    return found
-
-
-def _greatest_below(table, atoms):
-    """A case for each atom that is somewhere the least one."""
-    found = []
-    for name, shift in atoms:
-        part = table
-        for other, more in atoms:
-            part = _not_above(part, name, shift - more, other)
-        if part is not None:
-            found.append((fewest_of(part), (name, shift)))
-    return found
-
-
-def _not_above(table, left, shift, right):
-    """The table of the points at which left plus the shift is at most right, or None."""
-    if table is None:
-        return None
-    if left == right:
-        return table if shift <= 0 else None
-    return tightened(table, left, right, -shift)

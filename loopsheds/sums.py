@@ -4,8 +4,9 @@ The names that are summed away go one after the other. Where the greatest of sev
 least of several highs, decides, the rest is parted into tables of which each knows its low and high.
 """
 
+from loopsheds.atoms import highs_of, lows_of, with_greatest, with_least
 from loopsheds.polynomials import Poly, summed
-from loopsheds.tables import fewest_of, lies_in, met, tightened, without
+from loopsheds.tables import fewest_of, lies_in, met, without
 from loopsheds.unions import cut_off, joined
 
 
@@ -45,35 +46,6 @@ def _simplest(table, names):
     return names[sizes.index(min(sizes))]
 
 
-def lows_of(table, name):
-    """The atoms that are a least value of a name, without those that are never the greatest."""
-    atoms = [(side, -row[name]) for side, row in table.items() if side != name and name in row]
-    found = []
-    for side, shift in atoms:
-        if not any([_is_at_most(table, side, shift, other) for other in found]):
-            above = [other for other in found if not _is_at_most(table, other[0], other[1], (side, shift))]
-            found = [*above, (side, shift)]
-    return found
-
-
-def highs_of(table, name):
-    """The atoms that are a greatest value of a name, without those that are never the least."""
-    atoms = [(side, limit) for side, limit in table[name].items() if side != name]
-    found = []
-    for side, shift in atoms:
-        if not any([_is_at_most(table, other[0], other[1], (side, shift)) for other in found]):
-            below = [other for other in found if not _is_at_most(table, side, shift, other)]
-            found = [*below, (side, shift)]
-    return found
-
-
-def _is_at_most(table, side, shift, atom):
-    """Whether one atom is never above another one."""
-    other, more = atom
-    limit = 0 if side == other else table[side].get(other)
-    return limit is not None and limit + shift <= more
-
-
 def _cases(table, name):
     """Tables without the name and without common solutions, each with the low and the high of the name."""
     lows = lows_of(table, name)
@@ -81,44 +53,14 @@ def _cases(table, name):
     rest = without(table, [name])
     found = []
     for at, low in enumerate(lows):
-        part = _with_greatest(rest, low, lows[:at], lows[at + 1:])
+        part = with_greatest(rest, low, lows[:at], lows[at + 1:])
         if part is None:
             continue
         for place, high in enumerate(highs):
-            case = _with_least(part, high, highs[:place], highs[place + 1:])
+            case = with_least(part, high, highs[:place], highs[place + 1:])
             if case is not None:
                 found.append((case, low, high))
     return found
-
-
-def _with_greatest(table, atom, earlier, later):
-    """The table where an atom is above the earlier ones and not below the later ones, or None."""
-    found = table
-    for other in earlier:
-        found = _in_order(found, other, atom, 1)
-    for other in later:
-        found = _in_order(found, other, atom, 0)
-    return found
-
-
-def _with_least(table, atom, earlier, later):
-    """The table where an atom is below the earlier ones and not above the later ones, or None."""
-    found = table
-    for other in earlier:
-        found = _in_order(found, atom, other, 1)
-    for other in later:
-        found = _in_order(found, atom, other, 0)
-    return found
-
-
-def _in_order(table, one, other, gap):
-    """The table where one atom plus the gap is at most the other one, or None."""
-    if table is None:
-        return None
-    limit = other[1] - one[1] - gap
-    if one[0] == other[0]:
-        return table if limit >= 0 else None
-    return tightened(table, one[0], other[0], limit)
 
 
 def overlaid(rows, others):

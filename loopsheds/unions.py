@@ -32,10 +32,12 @@ def cut_off(table, differences):
 
 
 def subtracted(tables, others):
-    """What is in the first union and not in the second one; tables that were apart stay so."""
+    """What is in the first union and not in the second one; tables that were apart stay so.
+
+    Tables with few differences leave few parts, so they go first.
+    """
     rest = tables
-    for other in others:
-        differences = fewest_of(other)
+    for differences in sorted([fewest_of(other) for other in others], key=len):
         rest = [part for table in rest for part in cut_off(table, differences)]
         if not rest:
             return []
@@ -56,22 +58,18 @@ def parted(tables):
 
 
 def absorbed(tables):
-    """The same union without tables that lie in another one."""
-    if len(tables) > CROWD:
-        return tables
+    """The same union without tables that lie in another one, as far as not too many are kept."""
     found = []
-    for at, table in enumerate(tables):
-        if not _is_spare(table, found, tables[at + 1:]):
+    for table in tables:
+        if len(found) > CROWD:
             found.append(table)
+        elif not _lies_in_one(table, found):
+            found = [*[other for other in found if not lies_in(other, table)], table]
     return found
 
 
-def _is_spare(table, earlier, later):
-    """Whether a table lies in an earlier one that was kept, or in a later one."""
-    for outer in earlier:
-        if lies_in(table, outer):
-            return True
-    for outer in later:
+def _lies_in_one(table, others):
+    for outer in others:
         if lies_in(table, outer):
             return True
     return False
