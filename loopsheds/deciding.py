@@ -15,12 +15,16 @@ def tables_where(formula, wanted):
         step, what, worth = waiting.pop()
         if step == "ask":
             _ask(waiting, found, what, worth)
-        elif step == "row":
-            parts = found[-what:]
-            del found[-what:]
-            found.append(_all_of(parts) if worth else _any_of(parts))
         else:
-            found.append(_shadow(found.pop(), what, worth))
+            many, names = what
+            parts = found[-many:]
+            del found[-many:]
+            if step == "all":
+                found.append(_completed(parts, names))
+            elif step == "any":
+                found.append(_any_of(parts))
+            if not worth:
+                found.append(outside(found.pop()))
     return found[0]
 
 
@@ -32,12 +36,41 @@ def _ask(waiting, found, formula, wanted):
     elif word == "not":
         waiting.append(("ask", formula[1], not wanted))
     elif word in ("and", "or"):
-        waiting.append(("row", len(formula[1]), (word == "and") == wanted))
-        waiting.extend([("ask", part, wanted) for part in formula[1]])
+        is_all = (word == "and") == wanted
+        parts = _parts(formula, wanted, is_all)
+        waiting.append(("all" if is_all else "any", (len(parts), []), True))
+        waiting.extend([("ask", part, worth) for part, worth in parts])
     else:
         is_some = word == "some"
-        waiting.append(("quantifier", formula[1], is_some == wanted))
-        waiting.append(("ask", formula[2], is_some))
+        names, inner = _block(formula)
+        parts = _parts(inner, is_some, True)
+        waiting.append(("all", (len(parts), names), is_some == wanted))
+        waiting.extend([("ask", part, worth) for part, worth in parts])
+
+
+def _parts(formula, wanted, is_all):
+    """The formulas, each with whether it is wanted, that have to be as wanted: all of them, or just one."""
+    found = []
+    waiting = [(formula, wanted)]
+    while waiting:
+        part, worth = waiting.pop()
+        if part[0] == "not":
+            waiting.append((part[1], not worth))
+        elif part[0] == ("and" if worth == is_all else "or"):
+            waiting.extend([(inner, worth) for inner in part[1]])
+        else:
+            found.append((part, worth))
+    return found
+
+
+def _block(formula):
+    """The names of quantifiers of one kind, one behind the other, and the formula behind them."""
+    names = []
+    inner = formula
+    while inner[0] == formula[0]:
+        names.append(inner[1])
+        inner = inner[2]
+    return names, inner
 
 
 def _compared(formula, wanted):
@@ -89,7 +122,31 @@ def _any_of(parts):
     return simplified([table for part in parts for table in part])
 
 
-def _shadow(tables, name, is_wanted):
-    """The tables of the points that some integer for a name completes, or of all others."""
-    found = simplified([without(table, [name]) for table in tables])
-    return found if is_wanted else outside(found)
+def _completed(parts, names):
+    """The tables of the points that some integers for these names complete to points of all the unions.
+
+    Each name goes as soon as the unions that have it are one, and those that make the fewest tables go first.
+    """
+    rest = parts
+    left = names
+    while left:
+        costs = [_cost(rest, name) for name in left]
+        name = left[costs.index(min(costs))]
+        having = [part for part in rest if _mentions(part, name)]
+        shadow = simplified([without(table, [name]) for table in _all_of(having)])
+        rest = [*[part for part in rest if not _mentions(part, name)], shadow]
+        left = [other for other in left if other != name]
+    return _all_of(rest)
+
+
+def _cost(parts, name):
+    """At most how many tables it takes to make one union of those that have a name."""
+    found = 1
+    for part in parts:
+        if _mentions(part, name):
+            found = found * len(part)
+    return found
+
+
+def _mentions(tables, name):
+    return any(name in table for table in tables)

@@ -6,7 +6,7 @@ from loopsheds.errors import BadFormula
 from loopsheds.formulas import KINDS, free_names
 from loopsheds.systems import holds_at
 from loopsheds.tables import fewest_of, without
-from loopsheds.unions import outside, simplified
+from loopsheds.unions import simplified
 
 
 class Strategy:
@@ -35,28 +35,26 @@ def strategy(formula, /):
     """The Strategy of the side that wins a formula with its quantifiers in front."""
     if free_names(formula):
         raise BadFormula("open")
-    prefix, rest = _split(formula)
-    if _has_quantifier(rest):
+    prefix, rests = _split(formula)
+    if _has_quantifier(rests[-1]):
         raise BadFormula("prefix")
-    is_true, regions = _chances(prefix, rest)
-    winner = "some" if is_true else "all"
-    moves = {}
-    for (kind, name), tables in zip(prefix, regions):
-        if kind == winner:
-            moves[name] = _cases(tables, name)
-    return Strategy(winner, prefix, moves)
+    winner = "some" if tables_where(formula, True) else "all"
+    chances = _chances(prefix, rests, winner)
+    names = [name for kind, name in prefix if kind == winner]
+    return Strategy(winner, prefix, {name: _cases(chances[name], name) for name in names})
 
 
 def _split(formula):
-    """The quantifiers in front, with different names, and the formula behind them."""
+    """The quantifiers in front, with different names, and the formula behind each number of them."""
     prefix = []
     names = {}
-    rest = formula
-    while rest[0] in KINDS and rest[1] not in names:
-        prefix.append((rest[0], rest[1]))
-        names[rest[1]] = True
-        rest = rest[2]
-    return prefix, rest
+    rests = [formula]
+    while rests[-1][0] in KINDS and rests[-1][1] not in names:
+        kind, name, rest = rests[-1]
+        prefix.append((kind, name))
+        names[name] = True
+        rests.append(rest)
+    return prefix, rests
 
 
 def _has_quantifier(formula):
@@ -72,18 +70,20 @@ def _has_quantifier(formula):
     return False
 
 
-def _chances(prefix, rest):
-    """Whether the formula is true, and the winning points behind each move of the side that moves."""
-    regions = []
-    is_for = True
-    tables = tables_where(rest, True)
-    for kind, name in prefix[::-1]:
-        if is_for != (kind == "some"):
-            tables = outside(tables)
-            is_for = not is_for
-        regions.append(tables)
+def _chances(prefix, rests, winner):
+    """For each name of the winner: tables of the points, with this name, from which the winner can win."""
+    found = {}
+    tables = None
+    for at in range(len(prefix) - 1, -1, -1):
+        kind, name = prefix[at]
+        if kind != winner:
+            tables = None
+            continue
+        if tables is None:
+            tables = tables_where(rests[at + 1], winner == "some")
+        found[name] = tables
         tables = simplified([without(table, [name]) for table in tables])
-    return bool(tables) == is_for, regions[::-1]
+    return found
 
 
 def _cases(tables, name):
