@@ -15,21 +15,21 @@ def tables_where(formula, wanted):
         step, what, worth = waiting.pop()
         if step == "ask":
             _ask(waiting, found, what, worth)
-        else:
-            many, names = what
-            parts = found[-many:]
-            del found[-many:]
-            if step == "all":
-                found.append(_completed(parts, names))
-            elif step == "any":
-                found.append(_any_of(parts))
-            if not worth:
-                found.append(outside(found.pop()))
+            continue
+        many, names = what
+        parts = found[-many:]
+        del found[-many:]
+        tables = _completed(parts, names) if step == "all" else _any_of(parts)
+        found.append(tables if worth else outside(tables))
     return found[0]
 
 
 def _ask(waiting, found, formula, wanted):
-    """Note what is to be done for a formula, or give its tables straight."""
+    """Give the tables of a comparison straight; note what is to be done for any other formula.
+
+    Behind its parts stands how many they are and which names go: "all" takes what the parts have in
+    common, "any" what is in one of them. `all` is `some` of what is denied, and then what is outside.
+    """
     word = formula[0]
     if word == "compare":
         found.append(_compared(formula, wanted))

@@ -2,6 +2,7 @@
 
 from loopsheds.tables import fewest_of, hull_of, lies_in, met, tightened
 
+# Beyond these numbers of tables it costs more to make them fewer than it saves.
 MANY = 40
 CROWD = 400
 
