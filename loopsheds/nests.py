@@ -51,6 +51,7 @@ class Statement:
         self.target = node[3]
         self.reads = node[4]
         self.path = path
+        self.levels = [at + 1 for at, outer in enumerate(around) if outer[0] == "loop"]
         self.loops = [outer[1:5] for outer in around if outer[0] == "loop"]
         self.counters = tuple([outer[1] for outer in around if outer[0] == "loop"])
         self.tests = [difference for outer in around if outer[0] == "test" for difference in outer[1]]
@@ -75,18 +76,37 @@ def _runs_in(body, path, around):
 def bounds(nest, place):
     """The system that says when the statement at a place is run."""
     rows = _runs_in(nest.body, (), ())
-    if not is_whole(place) or not 0 <= place < len(rows):
-        raise NoPlace("there is no such statement")
+    check_place(place, len(rows))
+    return [*_bounds_of(rows[place][2]), *sizes_system(nest)]
+
+
+def check_place(place, many):
+    """Refuse what is no position in a row of so many."""
+    if not is_whole(place) or not 0 <= place < many:
+        raise NoPlace("there is no such place")
+
+
+def all_bounds(nest):
+    """The bounds of each statement, in the order of the text."""
+    last = sizes_system(nest)
+    return [[*_bounds_of(around), *last] for _, _, around in _runs_in(nest.body, (), ())]
+
+
+def sizes_system(nest):
+    """The system of the sizes that keep what is given."""
+    return [*nest.given, *[("0", size, 0) for size in nest.sizes]]
+
+
+def _bounds_of(around):
+    """The differences of the nodes around a statement, from outside in."""
     found = []
-    for node in rows[place][2]:
+    for node in around:
         if node[0] == "test":
             found.extend(node[1])
         else:
             counter = node[1]
             found.extend([(name, counter, -shift) for name, shift in node[2]])
             found.extend([(counter, name, shift) for name, shift in node[3]])
-    found.extend(nest.given)
-    found.extend([("0", size, 0) for size in nest.sizes])
     return found
 
 

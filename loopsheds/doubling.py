@@ -1,0 +1,46 @@
+"""Nests in which two runs have one name."""
+
+from loopsheds.faults import Doubled
+from loopsheds.layouts import Layout, marked, with_bounds, with_row
+from loopsheds.regions import region_of
+from loopsheds.tables import tightened, without
+from loopsheds.unions import absorbed, simplified, subtracted
+
+
+def where_single(nest):
+    """The region of the sizes at which no two runs of a nest have one name."""
+    layout = Layout(nest)
+    if layout.base is None:
+        return region_of(nest.sizes, [])
+    found = []
+    for place in range(len(layout.rows)):
+        for other in range(place, len(layout.rows)):
+            for table in _doubles(layout, place, other):
+                gone = [name for name in table if name != "0" and name not in nest.sizes]
+                found = absorbed([*found, without(table, gone)])
+    return region_of(nest.sizes, simplified(subtracted([layout.base], found)))
+
+
+def check_single(nest):
+    """Refuse a nest that is doubled at some sizes."""
+    layout = Layout(nest)
+    for place, row in enumerate(layout.rows):
+        for other in range(place, len(layout.rows)):
+            if _doubles(layout, place, other):
+                raise Doubled(row.label)
+
+
+def _doubles(layout, place, other):
+    """Tables of all runs of two statements that have one name; of one statement, only two different runs."""
+    row, other_row = layout.rows[place], layout.rows[other]
+    if row.label != other_row.label:
+        return []
+    names, other_names = marked(row, "<"), marked(other_row, ">")
+    table = with_row({}, row.stamp, names, other_row.stamp, other_names)
+    table = with_bounds(with_bounds(table, layout.systems[place], names), layout.systems[other], other_names)
+    if table is None:
+        return []
+    if place != other:
+        return [table]
+    parts = [tightened(table, names[counter], other_names[counter], -1) for counter in row.counters]
+    return [part for part in parts if part is not None]

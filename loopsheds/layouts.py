@@ -1,0 +1,73 @@
+"""Statements at all sizes at once: their bounds over names of one's own choice, and what their runs share."""
+
+from loopsheds.nests import all_bounds, sizes_system, statements
+from loopsheds.tables import table_of, tightened
+
+
+class Layout:
+    """The statements of a nest with their bounds, found once for a question."""
+
+    def __init__(self, nest):
+        self.rows = statements(nest)
+        self.systems = all_bounds(nest)
+        self.sizes = nest.sizes
+        self.base = table_of(sizes_system(nest))
+
+    def table_at(self, place):
+        """The closed table of a statement's bounds, or None."""
+        return table_of(self.systems[place])
+
+
+def marked(row, mark):
+    """For each counter of a statement a name that no nest has, by its depth and a mark."""
+    return {counter: f"{mark}{depth}" for depth, counter in enumerate(row.counters)}
+
+
+def put_in_atom(atom, names):
+    """The atom with other names for some names."""
+    return (names.get(atom[0], atom[0]), atom[1])
+
+
+def with_bounds(table, system, names):
+    """The table with the differences of a system, with other names for some names, or None."""
+    found = table
+    for left, right, limit in system:
+        if found is None:
+            return None
+        found = tightened(found, names.get(left, left), names.get(right, right), limit)
+    return found
+
+
+def with_equal(table, one, other):
+    """The table where two atoms are equal, or None."""
+    if table is None:
+        return None
+    limit = other[1] - one[1]
+    if one[0] == other[0]:
+        return table if limit == 0 else None
+    found = tightened(table, one[0], other[0], limit)
+    if found is None:
+        return None
+    return tightened(found, other[0], one[0], -limit)
+
+
+def with_row(table, atoms, names, others, other_names):
+    """The table where two rows of atoms are equal, each with names of its own, or None."""
+    found = table
+    for one, other in zip(atoms, others):
+        found = with_equal(found, put_in_atom(one, names), put_in_atom(other, other_names))
+    return found
+
+
+def shared_length(path, other):
+    """How many positions two paths have in common at their beginnings."""
+    same = 0
+    while same < min(len(path), len(other)) and path[same] == other[same]:
+        same = same + 1
+    return same
+
+
+def shared_loops(row, other):
+    """How many loops stand around both statements."""
+    same = shared_length(row.path, other.path)
+    return len([level for level in row.levels if level <= same])
