@@ -1,10 +1,10 @@
 """Nests in which two runs have one name."""
 
 from loopsheds.faults import Doubled
-from loopsheds.layouts import Layout, marked, with_bounds, with_row
+from loopsheds.layouts import Layout, marked, sizes_of, with_bounds, with_row
 from loopsheds.regions import region_of
-from loopsheds.tables import tightened, without
-from loopsheds.unions import absorbed, simplified, subtracted
+from loopsheds.tables import tightened
+from loopsheds.unions import simplified, subtracted
 
 
 def where_single(nest):
@@ -15,10 +15,8 @@ def where_single(nest):
     found = []
     for place in range(len(layout.rows)):
         for other in range(place, len(layout.rows)):
-            for table in _doubles(layout, place, other):
-                gone = [name for name in table if name != "0" and name not in nest.sizes]
-                found = absorbed([*found, without(table, gone)])
-    return region_of(nest.sizes, simplified(subtracted([layout.base], found)))
+            found.extend(_doubles(layout, place, other))
+    return region_of(nest.sizes, simplified(subtracted([layout.base], sizes_of(found, nest.sizes))))
 
 
 def check_single(nest):

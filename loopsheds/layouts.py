@@ -1,7 +1,8 @@
 """Statements at all sizes at once: their bounds over names of one's own choice, and what their runs share."""
 
 from loopsheds.nests import all_bounds, sizes_system, statements
-from loopsheds.tables import table_of, tightened
+from loopsheds.tables import table_of, tightened, without
+from loopsheds.unions import absorbed
 
 
 class Layout:
@@ -16,6 +17,15 @@ class Layout:
     def table_at(self, place):
         """The closed table of a statement's bounds, or None."""
         return table_of(self.systems[place])
+
+
+def sizes_of(tables, sizes):
+    """The tables of the sizes that the points of some tables have."""
+    found = []
+    for table in tables:
+        gone = [name for name in table if name != "0" and name not in sizes]
+        found.append(without(table, gone))
+    return absorbed(found)
 
 
 def marked(row, mark):

@@ -4,7 +4,7 @@ from loopsheds.doubling import check_single
 from loopsheds.latest import FIRST
 from loopsheds.layouts import Layout
 from loopsheds.sources import check_read, source_cases, sources
-from loopsheds.systems import is_whole
+from loopsheds.systems import copied, is_whole
 from loopsheds.tables import limit_of, met, table_of
 from loopsheds.unions import subtracted
 
@@ -34,17 +34,6 @@ class Paper:
 def paper(nest, place, read):
     """The Paper of a read."""
     return Paper(sources(nest, place, read))
-
-
-def copied(thing):
-    """A copy of something, with all lists and dicts within it."""
-    if isinstance(thing, list):
-        return [copied(part) for part in thing]
-    if isinstance(thing, tuple):
-        return tuple([copied(part) for part in thing])
-    if isinstance(thing, dict):
-        return {key: copied(thing[key]) for key in thing}
-    return thing
 
 
 def _tells(layout, known, table, told):

@@ -121,15 +121,20 @@ def _cell(access, values):
     return (array, _numbers(atoms, values))
 
 
-def _check_sizes(nest, sizes):
-    """Refuse sizes that a nest does not run for."""
+def are_sizes(nest, sizes):
+    """Whether a nest runs for these sizes."""
     if not isinstance(sizes, dict) or sorted(nest.sizes) != _sorted_names(sizes):
-        raise BadSizes("not exactly the sizes of the nest")
+        return False
     for worth in sizes.values():
         if not is_whole(worth) or not 0 <= worth <= MOST_SIZE:
-            raise BadSizes("a size is out of its limits")
-    if not holds_at(nest.given, sizes):
-        raise BadSizes("what is given does not hold")
+            return False
+    return holds_at(nest.given, sizes)
+
+
+def _check_sizes(nest, sizes):
+    """Refuse sizes that a nest does not run for."""
+    if not are_sizes(nest, sizes):
+        raise BadSizes("not sizes of the nest that keep what is given")
 
 
 def _sorted_names(sizes):

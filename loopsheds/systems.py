@@ -26,6 +26,17 @@ def is_difference(thing):
     return is_side(left) and is_side(right) and left != right and is_whole(limit)
 
 
+def copied(thing):
+    """A copy of something, with all lists and dicts within it."""
+    if isinstance(thing, list):
+        return [copied(part) for part in thing]
+    if isinstance(thing, tuple):
+        return tuple([copied(part) for part in thing])
+    if isinstance(thing, dict):
+        return {key: copied(thing[key]) for key in thing}
+    return thing
+
+
 def read_system(system):
     """The differences of a system, as tuples in a new list."""
     found = []

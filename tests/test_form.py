@@ -111,11 +111,18 @@ class FormTest(unittest.TestCase):
                     self.assertIsInstance(node.value, ast.Constant)
                 elif isinstance(node, ast.Assign):
                     self.assertEqual(len(node.targets), 1)
-                    ast.literal_eval(node.value)
+                    self.check_plain(node.value, names)
                 else:
                     self.assertIsInstance(node, allowed, path)
                 names.extend(self.names_of(node))
             self.assertEqual(len(names), len(set(names)), path)
+
+    def check_plain(self, value, names):
+        """Plain values, and dicts from such to functions that are defined above."""
+        if isinstance(value, ast.Dict) and all(isinstance(part, ast.Name) for part in value.values):
+            self.assertLessEqual({part.id for part in value.values}, set(names))
+        else:
+            ast.literal_eval(value)
 
     def test_names(self):
         for path, tree in trees():
@@ -138,10 +145,20 @@ class FormTest(unittest.TestCase):
                     self.assertFalse(node.id == "_" and isinstance(node.ctx, ast.Load), path)
 
     def test_statements(self):
-        barred = (ast.Global, ast.AsyncFunctionDef, ast.AugAssign, ast.Div, ast.Await, ast.Try, ast.Lambda)
+        barred = (ast.Global, ast.AsyncFunctionDef, ast.AugAssign, ast.Div, ast.Await, ast.Lambda)
+        own = {node.name for _, tree in trees() for node in tree.body if isinstance(node, ast.ClassDef)}
         for path, tree in trees():
             for node in ast.walk(tree):
                 self.assertNotIsInstance(node, barred, (path, getattr(node, "lineno", 0)))
+                if isinstance(node, ast.Try):
+                    self.assertFalse(node.finalbody, path)
+                    self.assertTrue(all(handler.type.id in own for handler in node.handlers), path)
+                if isinstance(node, ast.Starred) and isinstance(node.ctx, ast.Load):
+                    self.assertNotIsInstance(node.value, ast.GeneratorExp, path)
+                if isinstance(node, ast.Call):
+                    for part in node.args:
+                        if isinstance(part, ast.Starred):
+                            self.assertIsInstance(part.value, (ast.Name, ast.Attribute), (path, node.lineno))
                 if isinstance(node, (ast.Is, ast.IsNot)):
                     continue
                 if isinstance(node, ast.Compare) and isinstance(node.ops[0], (ast.Is, ast.IsNot)):
