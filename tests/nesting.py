@@ -116,3 +116,57 @@ def is_run(told, run, point):
     if told[0] != "run" or told[1] != run.place:
         return False
     return tuple(value_of(atom, point) for atom in told[2]) == run.counters
+
+
+def paths_of(nest):
+    """All nodes of a nest with their paths."""
+    found = []
+
+    def go(body, path):
+        for at, node in enumerate(body):
+            found.append(((*path, at), node))
+            if node[0] != "run":
+                go(node[-1], (*path, at))
+    go(nest.body, ())
+    return found
+
+
+def failing(first, second, sizes):
+    """What fails of (1), (2) and (3) of [19] at some sizes."""
+    traces = [{run.name: [(cell if source is None else source.name) for cell, source in zip(run.reads, sources)]
+               for run, sources in history(nest, sizes)[0]} for nest in (first, second)]
+    ends = [{cell: run.name for cell, run in history(nest, sizes)[1].items() if cell[0] in nest.kept}
+            for nest in (first, second)]
+    found = []
+    if set(traces[0]) != set(traces[1]):
+        found.append("runs")
+    if any(traces[0][name] != traces[1][name] for name in traces[0] if name in traces[1]):
+        found.append("reads")
+    if ends[0] != ends[1]:
+        found.append("kept")
+    return found
+
+
+def varied(rng, nest):
+    """The nest with some other atoms, bounds, directions and givens."""
+    def atom(old, scope):
+        draw = rng.random()
+        if draw < 0.04:
+            return (old[0], old[1] + rng.choice([-1, 1]))
+        return (rng.choice([*scope, "0"]), old[1]) if draw < 0.06 else old
+
+    def row(atoms, scope):
+        return tuple(atom(old, scope) for old in atoms)
+
+    def change(node, scope):
+        if node[0] == "run":
+            return ("run", node[1], node[2], (node[3][0], row(node[3][1], scope)),
+                    tuple((array, row(atoms, scope)) for array, atoms in node[4]))
+        if node[0] == "test":
+            tests = tuple((left, right, limit + (rng.random() < 0.1)) for left, right, limit in node[1])
+            return ("test", tests, tuple(change(child, scope) for child in node[2]))
+        lows, highs = [tuple(dict.fromkeys(row(atoms, scope))) for atoms in node[2:4]]
+        down = node[4] != (rng.random() < 0.1)
+        return ("loop", node[1], lows, highs, down, tuple(change(child, [*scope, node[1]]) for child in node[5]))
+    given = (*nest.given, ("0", nest.sizes[0], -1)) if rng.random() < 0.2 else nest.given
+    return Nest(nest.sizes, given, {}, nest.kept, tuple(change(node, list(nest.sizes)) for node in nest.body))
