@@ -30,10 +30,10 @@ class Story:
 
     def changed_by(self, entry, order):
         """Whether a read has another source, or a kept cell another last writer, with this order in an entry."""
-        late = self.in_order(entry, order)
+        late = self.reordered(entry, order)
         return self.sources_of(late) != self.sources_of(self.positions())
 
-    def in_order(self, entry, order):
+    def reordered(self, entry, order):
         """The positions of all runs with the runs of an entry in the order that tells whose turn it is."""
         rounds = self.entries[entry]
         taken = {number: 0 for number in rounds}
@@ -55,11 +55,11 @@ class Story:
         return sources, {cell: at for cell, at in writers.items() if cell[0] in self.kept}
 
     def writing_rounds(self, entry):
-        """For each cell that is written in an entry, the rounds that write it, each with its first position there."""
+        """For each cell that is written in an entry, the rounds that write it."""
         found = {}
         for number, positions in self.entries[entry].items():
             for at in positions:
-                found.setdefault(self.told[at].writes, {}).setdefault(number, at)
+                found.setdefault(self.told[at].writes, {})[number] = True
         return found
 
 
@@ -94,13 +94,12 @@ def _order_for_read(story, writing, kind, at, read, source):
     """An entry and an order of it that give a read in it another source, or None."""
     entry, number = story.rounds[at]
     rounds = story.entries[entry]
-    writers = writing[entry].get(story.told[at].reads[read], {})
-    others = [other for other in writers if other != number]
-    is_own = source is not None and story.rounds.get(source) == (entry, number)
-    if not others or (kind == "whole" and is_own):
+    if kind == "whole" and story.rounds.get(source) == (entry, number):
         return None
-    other = others[0]
-    if source is not None and story.rounds.get(source) == (entry, other):
+    other = _other_of(writing[entry].get(story.told[at].reads[read], {}), number)
+    if other is None:
+        return None
+    if story.rounds.get(source) == (entry, other):
         return entry, _turns(rounds, kind, [number, *[one for one in rounds if one != number]])
     rest = [one for one in rounds if one != number and one != other]
     if kind == "whole":
@@ -114,10 +113,18 @@ def _order_for_end(story, writing, kind, at):
     """An entry and an order of it in which another round than that of a run writes the run's cell last, or None."""
     entry, number = story.rounds[at]
     rounds = story.entries[entry]
-    others = [other for other in writing[entry][story.told[at].writes] if other != number]
-    if not others:
+    other = _other_of(writing[entry][story.told[at].writes], number)
+    if other is None:
         return None
-    return entry, _turns(rounds, kind, [*[one for one in rounds if one != others[0]], others[0]])
+    return entry, _turns(rounds, kind, [*[one for one in rounds if one != other], other])
+
+
+def _other_of(numbers, number):
+    """The first of some rounds that is another one, or None."""
+    for other in numbers:
+        if other != number:
+            return other
+    return None
 
 
 def _turns(rounds, kind, numbers):
