@@ -45,8 +45,13 @@ def agree(first, second):
     least = region_of(first.sizes, [table for _, tables in unlike for table in tables]).first_point()
     if least is None:
         return Verdict(True, None, "")
-    kinds = [kind for kind, tables in unlike if any(solves({**least, "0": 0}, table) for table in tables)]
+    kinds = [kind for kind, tables in unlike if _is_in(least, tables)]
     return Verdict(False, least, kinds[0])
+
+
+def _is_in(sizes, tables):
+    """Whether sizes solve one of the tables."""
+    return any(solves({**sizes, "0": 0}, table) for table in tables)
 
 
 def check_comparable(first, second):
