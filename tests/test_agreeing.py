@@ -151,6 +151,20 @@ class AgreeingTest(unittest.TestCase):
                     call(first, second)
                 self.assertEqual(caught.exception.label, label)
 
+    def test_names_of_sources_by_value(self):
+        """One name may be told by numbers, sizes and counters."""
+        tail = 'r(): a[] = t[]\n'
+        texts = ['g(1, n + 1): t[] =\n', 'up i from 1 to 1\n  g(i, n + 1): t[] =\n',
+                 'up i from n - 2 to n - 2\n  g(1, i + 3): t[] =\n',
+                 'down k from n to n\n  up i from 2 to 2\n    g(i - 1, k + 1): t[] =\n']
+        nests = [read_nest('sizes n\nkeep a\n' + text + tail) for text in texts]
+        for one in nests:
+            for two in nests:
+                self.assertEqual(told(agree(one, two)), (True, None, ""))
+        other = read_nest('sizes n\nkeep a\ng(1, n + 1): z[] =\ng(2, n + 1): t[] =\n' + tail)
+        both = read_nest('sizes n\nkeep a\ng(2, n + 1): z[] =\nup i from 1 to 1\n  g(i, n + 1): t[] =\n' + tail)
+        self.assertEqual(told(agree(other, both)), (False, {"n": 0}, "reads"))
+
     def test_plays_are_the_same_where_nests_agree(self):
         seen = set()
         for seed in range(150):

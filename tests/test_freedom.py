@@ -169,6 +169,15 @@ class FreedomTest(unittest.TestCase):
                 self.assertEqual(None if isinstance(told, Free) else told.sizes, sizes, (body, kind))
                 self.check(nest, path, kind, 4)
 
+    def test_the_order_is_for_what_changes(self):
+        """Rounds that write what only they read themselves are no reason for an order of whole rounds."""
+        for used in ("  when i <= 2\n    h(i): a[0] =\n", "  when i <= 2\n    h(i): c[0] =\nk(): a[0] = c[0]\n"):
+            nest = read_nest('sizes n\ngiven 5 <= n\nkeep a\nup i from 1 to n\n  f(i): t[] =\n  g(i): b[i] = t[]\n' + used)
+            told = judge_order(nest, (0,), "whole")
+            self.assertEqual(told.sizes, {"n": 5})
+            self.assertTrue(told.shows(nest, (0,), "whole"))
+            self.check_mixup(nest, (0,), "whole", told)
+
     def test_givens(self):
         body = 'keep a\nup i from 1 to n\n  f(i): a[i] = a[i - 3]\n'
         self.assertEqual(where_free(read_nest('sizes n\ngiven n <= 9\n' + body), (0,), "whole").spread("n"), [(0, 3)])

@@ -79,6 +79,9 @@ class MovesTest(unittest.TestCase):
         body = 'up i from 1 to n, 5\n  f(i): a[i] =\nup i from 6, m to n, m\n  f(i): a[i] =\n'
         self.assertEqual(after(body, ("join", (0,))), 'up i from 1 to n, m\n  f(i): a[i] =\n')
         self.assertEqual(after(body.replace("up", "down"), ("join", (0,))), 'down i from 6, m to n, 5\n  f(i): a[i] =\n')
+        for word in ("up", "down"):
+            late = body.replace("up", word) + "g(): t[] =\nh(): t[] =\n"
+            self.assertEqual(after(late, ("join", (0,))).splitlines()[1:], ["  f(i): a[i] =", "g(): t[] =", "h(): t[] ="])
 
     def test_part(self):
         body = 'down i from 1 to n\n  f(i): a[i] =\n  when i <= 3\n    g(i): t[] =\n  h(i): a[i] =\n'
@@ -134,6 +137,9 @@ class MovesTest(unittest.TestCase):
         late = 'up i from 1 to n\n  f(i): t[i] = a[i]\n  g(i): a[i] = t[i], t[i]\n'
         self.assertEqual(after(body, ("expand", (0,), "t")), late)
         self.assertEqual(after(late, ("contract", "t", 0)), body)
+        three = 'up i from 1 to n\n  f(i): t[i, 0, n] = t[0, 0, 0]\ng(): u[] =\nh(): u[] =\n'
+        self.assertEqual(after(three, ("expand", (0,), "t")),
+                         'up i from 1 to n\n  f(i): t[i, 0, n, i] = t[0, 0, 0, i]\ng(): u[] =\nh(): u[] =\n')
         roomy = 'sizes n, m\nroom t[0 .. n, 1 .. 2]\nroom z[]\nkeep a\n'
         wide = 'up i from 1 to n\n  f(i): t[i, 3] =\n'
         self.assertEqual(after(wide, ("expand", (0,), "t"), head=roomy),
@@ -185,6 +191,17 @@ when n <= 3
         for move in (("fuse", (1,)), ("split", (3, 0), ("j", 0)), ("split", (3,), ("m", 9998)), ("rename", (1,), "a"),
                      ("expand", (3,), "c"), ("expand", (3, 0), "v"), ("contract", "b", 3), ("shift", (1,), -9990)):
             moved(nest, move)
+
+    def test_counters_further_in(self):
+        nest = read_nest(HEAD + 'up i from 0 to n\n  when i <= 3\n    up j from 0 to i\n      up k from 0 to 0\n'
+                         '        f(i, j): a[i] =\n')
+        for name in ("j", "k"):
+            with self.assertRaises(NoMove):
+                moved(nest, ("rename", (0,), name))
+        two = read_nest(HEAD + 'up i from 0 to n\n  f(i): a[i] =\nup j from 0 to n\n  when j <= 3\n    up i from 0 to 0\n'
+                        '      g(i, j): a[i] =\n')
+        with self.assertRaises(NoMove):
+            moved(two, ("fuse", (0,)))
 
     def test_a_room_alone_is_no_access(self):
         nest = read_nest('sizes n\nroom z[0 .. n]\nup i from 0 to n\n  f(i): a[i] =\n')
