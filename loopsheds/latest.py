@@ -5,8 +5,8 @@ Runs are looked for from the latest on: those that share all loops with the read
 the text, those of earlier rounds of the innermost loop, and so on outwards.
 """
 
-from loopsheds.atoms import highs_of, in_order, lows_of, with_greatest, with_least
-from loopsheds.layouts import shared_length, shared_loops, with_bounds, with_equal, with_row
+from loopsheds.atoms import highs_of, lows_of, with_greatest, with_least
+from loopsheds.layouts import ahead_of, shared_length, with_bounds, with_equal, with_row
 from loopsheds.tables import met, tightened, without
 from loopsheds.unions import joined, subtracted
 
@@ -119,11 +119,8 @@ def _last_values(table, unknown, downs):
     found = [(table, ())]
     for at, name in enumerate(unknown):
         later = unknown[at + 1:]
-        longer = []
-        for part, atoms in found:
-            for piece, atom in _extremes(part, name, later, downs[at]):
-                longer.append((piece, (*atoms, atom)))
-        found = longer
+        found = [(piece, (*atoms, atom)) for part, atoms in found
+                 for piece, atom in _extremes(part, name, later, downs[at])]
     return found
 
 
@@ -146,27 +143,26 @@ def _latest_of(layout, chances):
     found = []
     tables = []
     for chance in chances:
-        fresh = [(part, told) for table, told in chance.cases for part in subtracted([table], tables)]
-        for table, told in found:
-            fresh.extend([(part, told) for part in subtracted([table], chance.tables)])
-            for other, new in chance.cases:
-                both = met(table, other)
-                if both is not None:
-                    fresh.extend(_later_of(layout, both, told, new))
-        found = fresh
+        found = _with_chance(layout, found, tables, chance)
         tables = [*tables, *chance.tables]
+    return found
+
+
+def _with_chance(layout, cases, tables, chance):
+    """The cases of the latest run, of the statements that were seen (they have these tables) and of one more."""
+    found = [(part, told) for table, told in chance.cases for part in subtracted([table], tables)]
+    for table, told in cases:
+        found.extend([(part, told) for part in subtracted([table], chance.tables)])
+        for other, new in chance.cases:
+            both = met(table, other)
+            if both is not None:
+                found.extend(_later_of(layout, both, told, new))
     return found
 
 
 def _later_of(layout, table, told, other):
     """The cases of the later one of two runs."""
-    row, other_row = layout.rows[told[1]], layout.rows[other[1]]
-    found = []
-    rest = table
-    for at in range(shared_loops(row, other_row)):
-        early, late = (other[2][at], told[2][at]) if row.loops[at][3] else (told[2][at], other[2][at])
-        found.append((in_order(rest, early, late, 1), other))
-        found.append((in_order(rest, late, early, 1), told))
-        rest = with_equal(rest, early, late)
-    found.append((rest, told if row.path > other_row.path else other))
-    return [(part, last) for part, last in found if part is not None]
+    ones = (layout.rows[told[1]], told[2])
+    others = (layout.rows[other[1]], other[2])
+    early = [(part, other) for part in ahead_of(table, ones, others)]
+    return [*early, *[(part, told) for part in ahead_of(table, others, ones)]]

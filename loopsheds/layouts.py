@@ -1,5 +1,6 @@
 """Statements at all sizes at once: their bounds over names of one's own choice, and what their runs share."""
 
+from loopsheds.atoms import in_order
 from loopsheds.nests import all_bounds, sizes_system, statements
 from loopsheds.tables import table_of, tightened, without
 from loopsheds.unions import absorbed
@@ -81,3 +82,21 @@ def shared_loops(row, other):
     """How many loops stand around both statements."""
     same = shared_length(row.path, other.path)
     return len([level for level in row.levels if level <= same])
+
+
+def ahead_of(table, one, other):
+    """The tables of the points at which the first of two runs goes ahead of the second one.
+
+    A run is a pair of its statement and the atoms that are the values of its counters. A run is not ahead of itself.
+    """
+    row, atoms = one
+    other_row, other_atoms = other
+    found = []
+    rest = table
+    for at in range(shared_loops(row, other_row)):
+        early, late = (other_atoms[at], atoms[at]) if row.loops[at][3] else (atoms[at], other_atoms[at])
+        found.append(in_order(rest, early, late, 1))
+        rest = with_equal(rest, early, late)
+    if row.path < other_row.path:
+        found.append(rest)
+    return [part for part in found if part is not None]

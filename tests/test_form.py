@@ -2,6 +2,7 @@
 
 import ast
 import builtins
+import itertools
 import pathlib
 import re
 import unittest
@@ -298,6 +299,66 @@ class PurityTest(unittest.TestCase):
                     self.assertIn(inner.func.value.id, made, where)
                 else:
                     self.assertIn(getattr(inner, "id", ""), made, where)
+
+
+class WalkTest(unittest.TestCase):
+    """What a loop goes over is not changed in it, under none of the names that the function gives it."""
+
+    def test_walked_lists_stay(self):
+        for path, tree in trees():
+            for function in functions(tree):
+                groups = self.groups(function)
+                for node in ast.walk(function):
+                    for walked, inner in self.walks(node):
+                        names = {name for one in walked for name in groups.get(one, {one})}
+                        for part in inner:
+                            changed = self.changed(part)
+                            self.assertFalse(names & changed, (path.name, function.name, node.lineno, changed))
+
+    def groups(self, function):
+        """For each name the names that may be the same thing, by plain assignments."""
+        found = {}
+        for node in ast.walk(function):
+            if isinstance(node, ast.Assign):
+                for target in node.targets:
+                    ones = [ast.unparse(part) for part in self.choices(target)]
+                    others = [ast.unparse(part) for part in self.choices(node.value)
+                              if isinstance(part, (ast.Name, ast.Attribute))]
+                    for one, other in itertools.product(ones, others):
+                        both = found.get(one, {one}) | found.get(other, {other})
+                        found.update((name, both) for name in both)
+        return found
+
+    def choices(self, value):
+        if isinstance(value, ast.IfExp):
+            return [*self.choices(value.body), *self.choices(value.orelse)]
+        if isinstance(value, ast.BoolOp):
+            return [part for one in value.values for part in self.choices(one)]
+        return [value]
+
+    def walks(self, node):
+        if isinstance(node, ast.For):
+            yield self.walked(node.iter), [part for row in node.body for part in ast.walk(row)]
+        elif isinstance(node, (ast.ListComp, ast.DictComp, ast.GeneratorExp)):
+            names = [name for one in node.generators for name in self.walked(one.iter)]
+            yield names, list(ast.walk(node))
+
+    def walked(self, value):
+        if isinstance(value, ast.Call):
+            inner = list(value.args) if getattr(value.func, "id", "") in ("enumerate", "zip", "reversed") else []
+            if getattr(value.func, "attr", "") in ("items", "keys", "values"):
+                inner = [value.func.value]
+            return [name for part in inner for name in self.walked(part)]
+        return [ast.unparse(part) for part in self.choices(value) if isinstance(part, (ast.Name, ast.Attribute))]
+
+    def changed(self, node):
+        if isinstance(node, ast.Call) and isinstance(node.func, ast.Attribute) and node.func.attr in CHANGING:
+            return {ast.unparse(node.func.value)}
+        if isinstance(node, ast.Call) and getattr(node.func, "id", "").startswith("heap") and node.args:
+            return {ast.unparse(node.args[0])}
+        if isinstance(node, ast.Subscript) and isinstance(node.ctx, (ast.Store, ast.Del)):
+            return {ast.unparse(node.value)}
+        return set()
 
 
 if __name__ == "__main__":
