@@ -33,8 +33,14 @@ def where_agree(first, second):
     pair = Pair(first, second)
     if pair.base is None:
         return region_of(first.sizes, [])
-    unlike = [table for kind in KINDS for table in pair.unlike_sizes(kind)]
-    return region_of(first.sizes, simplified(subtracted([pair.base], absorbed(unlike))))
+    return region_of(first.sizes, simplified(subtracted([pair.base], pair.all_unlike_sizes())))
+
+
+def where_unlike(first, second):
+    """The region of the sizes at which two nests are asked and do not agree."""
+    check_comparable(first, second)
+    pair = Pair(first, second)
+    return region_of(first.sizes, [] if pair.base is None else pair.all_unlike_sizes())
 
 
 def agree(first, second):
@@ -87,6 +93,10 @@ class Pair:
         self.one = Layout(first)
         self.other = Layout(second)
         self.base = table_of([*sizes_system(first), *second.given])
+
+    def all_unlike_sizes(self):
+        """The tables of the sizes at which the nests do not agree."""
+        return absorbed([table for kind in KINDS for table in self.unlike_sizes(kind)])
 
     def unlike_sizes(self, kind):
         """The tables of the sizes at which what this kind asks for fails."""

@@ -2,6 +2,7 @@
 
 from loopsheds.atoms import in_order
 from loopsheds.nests import all_bounds, sizes_system, statements
+from loopsheds.regions import region_of
 from loopsheds.tables import table_of, tightened, without
 from loopsheds.unions import absorbed
 
@@ -18,6 +19,12 @@ class Layout:
     def table_at(self, place):
         """The closed table of a statement's bounds, or None."""
         return table_of(self.systems[place])
+
+
+def all_sizes(nest):
+    """The region of the sizes that keep what is given."""
+    base = Layout(nest).base
+    return region_of(nest.sizes, [] if base is None else [base])
 
 
 def sizes_of(tables, sizes):
