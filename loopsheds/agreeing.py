@@ -5,7 +5,7 @@ from loopsheds.doubling import check_single
 from loopsheds.errors import Unlike
 from loopsheds.finals import final_cases
 from loopsheds.latest import FIRST
-from loopsheds.layouts import Layout, marked, put_in_atom, sizes_of, with_bounds, with_equal, with_row
+from loopsheds.layouts import (Layout, marked, put_in_atom, sizes_of, valued, with_bounds, with_equal, with_row)
 from loopsheds.nests import sizes_system
 from loopsheds.regions import region_of
 from loopsheds.sources import source_cases
@@ -211,13 +211,7 @@ def _told_name(layout, told, names, cell):
         return ("first", *cell)
     row = layout.rows[told[1]]
     values = {counter: put_in_atom(atom, names) for counter, atom in zip(row.counters, told[2])}
-    return ("run", row.label, tuple([_valued(atom, values) for atom in row.stamp]))
-
-
-def _valued(atom, values):
-    """The atom with an atom in the place of its name, if there is one for it."""
-    name, shift = values.get(atom[0], (atom[0], 0))
-    return (name, shift + atom[1])
+    return ("run", row.label, tuple([valued(atom, values) for atom in row.stamp]))
 
 
 def _unlike(table, one, other):

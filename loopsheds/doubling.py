@@ -33,12 +33,21 @@ def _doubles(layout, place, other):
     row, other_row = layout.rows[place], layout.rows[other]
     if row.label != other_row.label:
         return []
+    if place == other:
+        return twins(layout, place, row.stamp)
     names, other_names = marked(row, "<"), marked(other_row, ">")
     table = with_row({}, row.stamp, names, other_row.stamp, other_names)
     table = with_bounds(with_bounds(table, layout.systems[place], names), layout.systems[other], other_names)
+    return [] if table is None else [table]
+
+
+def twins(layout, place, atoms):
+    """Tables of all two different runs of a statement that have the same values of these atoms."""
+    row = layout.rows[place]
+    names, other_names = marked(row, "<"), marked(row, ">")
+    table = with_row({}, atoms, names, atoms, other_names)
+    table = with_bounds(with_bounds(table, layout.systems[place], names), layout.systems[place], other_names)
     if table is None:
         return []
-    if place != other:
-        return [table]
     parts = [tightened(table, names[counter], other_names[counter], -1) for counter in row.counters]
     return [part for part in parts if part is not None]

@@ -52,15 +52,15 @@ def needs(nest, array):
 
 def _cells_of(cases, row, axes, atoms):
     """The tables of the cells that are read where the source is their first content."""
-    found = []
-    for table, told in cases:
-        if told == FIRST:
-            cells = table
-            for axis, atom in zip(axes, atoms):
-                cells = with_equal(cells, (axis, 0), atom)
-            if cells is not None:
-                found.append(without(cells, row.counters))
-    return found
+    return [cells_at(table, row, axes, atoms) for table, told in cases if told == FIRST]
+
+
+def cells_at(table, row, axes, atoms):
+    """The table of the cells with these numbers that some runs of a statement have."""
+    found = table
+    for axis, atom in zip(axes, atoms):
+        found = with_equal(found, (axis, 0), atom)
+    return without(found, row.counters)
 
 
 def unread(nest, place):

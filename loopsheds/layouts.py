@@ -46,6 +46,12 @@ def put_in_atom(atom, names):
     return (names.get(atom[0], atom[0]), atom[1])
 
 
+def valued(atom, values):
+    """The atom with an atom in the place of its name, if there is one for it."""
+    name, shift = values.get(atom[0], (atom[0], 0))
+    return (name, shift + atom[1])
+
+
 def with_bounds(table, system, names):
     """The table with the differences of a system, with other names for some names, or None."""
     found = table
@@ -107,3 +113,18 @@ def ahead_of(table, one, other):
     if row.path < other_row.path:
         found.append(rest)
     return [part for part in found if part is not None]
+
+
+def atoms_of(row, names):
+    """The counters of a statement as atoms, with other names for some names."""
+    return tuple([put_in_atom((counter, 0), names) for counter in row.counters])
+
+
+def shared_accesses(row, other_row):
+    """The indexes of each two accesses of two statements to one array, one of them a target."""
+    found = []
+    for at, (array, atoms) in enumerate([row.target, *row.reads]):
+        for other, (other_array, other_atoms) in enumerate([other_row.target, *other_row.reads]):
+            if array == other_array and 0 in (at, other):
+                found.append((atoms, other_atoms))
+    return found

@@ -77,7 +77,7 @@ def bounds(nest, place):
     """The system that says when the statement at a place is run."""
     rows = _runs_in(nest.body, (), ())
     check_place(place, len(rows))
-    return [*_bounds_of(rows[place][2]), *sizes_system(nest)]
+    return [*bounds_of(rows[place][2]), *sizes_system(nest)]
 
 
 def check_place(place, many):
@@ -89,7 +89,7 @@ def check_place(place, many):
 def all_bounds(nest):
     """The bounds of each statement, in the order of the text."""
     last = sizes_system(nest)
-    return [[*_bounds_of(around), *last] for _, _, around in _runs_in(nest.body, (), ())]
+    return [[*bounds_of(around), *last] for _, _, around in _runs_in(nest.body, (), ())]
 
 
 def sizes_system(nest):
@@ -97,7 +97,7 @@ def sizes_system(nest):
     return [*nest.given, *[("0", size, 0) for size in nest.sizes]]
 
 
-def _bounds_of(around):
+def bounds_of(around):
     """The differences of the nodes around a statement, from outside in."""
     found = []
     for node in around:

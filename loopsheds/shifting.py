@@ -3,14 +3,15 @@
 from loopsheds.atoms import in_order
 from loopsheds.errors import BadNumber, BadShifts, Descending, NoLoop
 from loopsheds.faults import NoNode
-from loopsheds.layouts import Layout, all_sizes, marked, sizes_of, with_bounds, with_equal, with_row
+from loopsheds.layouts import (Layout, all_sizes, atoms_of, marked, shared_accesses, sizes_of, with_bounds, with_equal,
+                               with_row)
 from loopsheds.nests import node_at
 from loopsheds.regions import region_of
 from loopsheds.rewriting import body_around
 from loopsheds.systems import is_whole
 from loopsheds.times import order_times
 from loopsheds.unions import simplified
-from loopsheds.witnesses import atoms_of, least_point, least_sizes, sizes_at, values_at
+from loopsheds.witnesses import least_point, least_sizes, sizes_at, values_at
 
 MOST_DELAY = 9999
 # The rounds of the earlier and of the later loop of a touching pair.
@@ -189,13 +190,3 @@ def _least_delays(gaps, many):
         late = [found[one] + gaps[(one, other)] for one in range(other) if (one, other) in gaps]
         found.append(max([0, *late]))
     return tuple(found)
-
-
-def shared_accesses(row, other_row):
-    """The indexes of each two accesses of two statements to one array, one of them a target."""
-    found = []
-    for at, (array, atoms) in enumerate([row.target, *row.reads]):
-        for other, (other_array, other_atoms) in enumerate([other_row.target, *other_row.reads]):
-            if array == other_array and 0 in (at, other):
-                found.append((atoms, other_atoms))
-    return found

@@ -34,7 +34,7 @@ def summed_away(table, poly, names):
             continue
         name = _simplest(part, left)
         rest = [other for other in left if other != name]
-        for case, low, high in _cases(part, name):
+        for case, low, high in cases_of(part, name):
             more = summed(worth, name, Poly.of(low[0], low[1]), Poly.of(high[0], high[1]))
             waiting.append((case, more, rest))
     return found
@@ -46,7 +46,7 @@ def _simplest(table, names):
     return names[sizes.index(min(sizes))]
 
 
-def _cases(table, name):
+def cases_of(table, name):
     """Tables without the name and without common solutions, each with the low and the high of the name."""
     lows = lows_of(table, name)
     highs = highs_of(table, name)

@@ -1,7 +1,8 @@
 """Times by which the runs of a nest go as they do in the nest."""
 
-from loopsheds.errors import Descending
+from loopsheds.errors import BadTimes, Descending
 from loopsheds.nests import statements
+from loopsheds.parts import is_atom_of
 
 
 def order_times(nest):
@@ -30,3 +31,20 @@ def _way_to(row):
         if at + 1 in counters:
             found.append((counters[at + 1], 0))
     return found
+
+
+def check_times(nest, times):
+    """Refuse what does not have a row of atoms for each statement, all of one length."""
+    rows = statements(nest)
+    for place, row in enumerate(rows):
+        if place >= len(times) or not _is_time(times[place], (*row.counters, *nest.sizes)):
+            raise BadTimes(place)
+        if len(times[place]) != len(times[0]):
+            raise BadTimes(place)
+    if len(times) > len(rows):
+        raise BadTimes(len(rows))
+
+
+def _is_time(thing, scope):
+    """Whether something is a row of atoms, at least one."""
+    return isinstance(thing, (tuple, list)) and len(thing) > 0 and all(is_atom_of(atom, scope) for atom in thing)

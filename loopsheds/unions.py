@@ -97,14 +97,14 @@ def _partner(table, others):
     """The place of a table that makes one with this one, and that one; or None twice."""
     differences = fewest_of(table)
     for at, other in enumerate(others):
-        both = _one_of(table, differences, other)
+        both = one_of(table, differences, other)
         if both is not None:
             return at, both
     return None, None
 
 
-def _one_of(table, differences, other):
-    """The table with exactly the solutions of two tables, or None if there is none."""
+def one_of(table, differences, other):
+    """The table with exactly the solutions of two tables, or None; the differences are those of the first one."""
     both = hull_of(table, other)
     for left, right, limit in differences:
         part = tightened(both, right, left, -limit - 1)

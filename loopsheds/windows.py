@@ -3,13 +3,14 @@
 from loopsheds.errors import BadNumber
 from loopsheds.finals import check_array
 from loopsheds.latest import FIRST
-from loopsheds.layouts import Layout, ahead_of, marked, put_in_atom, sizes_of, with_bounds, with_equal, with_row
+from loopsheds.layouts import (Layout, ahead_of, atoms_of, marked, put_in_atom, sizes_of, with_bounds, with_equal,
+                               with_row)
 from loopsheds.nests import check_place
 from loopsheds.regions import region_of
 from loopsheds.sources import source_cases
 from loopsheds.systems import is_whole
 from loopsheds.tables import limit_of, tightened
-from loopsheds.witnesses import atoms_of, least_point, least_sizes, sizes_at, values_at
+from loopsheds.witnesses import least_point, least_sizes, sizes_at, values_at
 
 # The numbers of the cells that are written and read, at the index of the window.
 WRITTEN = "*written"

@@ -1,6 +1,5 @@
 """Runs at single sizes that witness what a table says."""
 
-from loopsheds.layouts import put_in_atom
 from loopsheds.regions import region_of
 
 
@@ -22,8 +21,3 @@ def sizes_at(point, sizes):
 def values_at(point, atoms):
     """The tuple of the values of atoms at a point."""
     return tuple([point[name] + shift for name, shift in atoms])
-
-
-def atoms_of(row, names):
-    """The counters of a statement as atoms, with other names for some names."""
-    return tuple([put_in_atom((counter, 0), names) for counter in row.counters])
