@@ -9,7 +9,7 @@ from loopsheds.layouts import Layout, marked, sizes_of, with_bounds, with_equal,
 from loopsheds.nests import node_at
 from loopsheds.regions import region_of
 from loopsheds.sources import source_cases
-from loopsheds.unions import joined, simplified, subtracted
+from loopsheds.unions import simplified, subtracted, united
 
 WHOLE = "whole"
 MIXED = "mixed"
@@ -99,7 +99,7 @@ class Loop:
                 tables.extend(_apart_from(table, own, told[2]))
             else:
                 tables.append(table)
-        return [part for table in joined(tables) for part in self.written_by_others(table, own, access)]
+        return [part for table in united(tables) for part in self.written_by_others(table, own, access)]
 
     def sent_by_others(self, place, access, cases):
         """The tables of the sizes at which a run is told, of an entry that the read is not in, that is not alone.

@@ -8,7 +8,7 @@ the text, those of earlier rounds of the innermost loop, and so on outwards.
 from loopsheds.atoms import highs_of, lows_of, with_greatest, with_least
 from loopsheds.layouts import ahead_of, shared_length, with_bounds, with_equal, with_row
 from loopsheds.tables import met, tightened, without
-from loopsheds.unions import joined, subtracted
+from loopsheds.unions import subtracted, united
 
 FIRST = ("first",)
 
@@ -71,7 +71,7 @@ def _gathered(cases):
     tables = {}
     for table, told in cases:
         tables.setdefault(told, []).append(table)
-    return [(table, told) for told in tables for table in joined(tables[told])]
+    return [(table, told) for told in tables for table in united(tables[told])]
 
 
 def _ways(layout, view, array):

@@ -13,11 +13,8 @@ MOST_EXPANDED = 3
 
 def moved(nest, move):
     """The nest after a move."""
-    if not isinstance(move, tuple) or len(move) == 0 or not isinstance(move[0], str) or move[0] not in PARTS:
-        raise BadMove("there is no such kind of moves")
+    check_move(move)
     kind = move[0]
-    if len(move) != PARTS[kind]:
-        raise BadMove("not as many parts as this kind of moves has")
     if kind == "contract":
         return _contracted(nest, move[1], move[2])
     path = move[1]
@@ -28,6 +25,14 @@ def moved(nest, move):
     more = move[2:]
     many, nodes = action(nest, path, node, *more)
     return _made(nest, nest.rooms, with_nodes(nest.body, path, many, nodes))
+
+
+def check_move(move):
+    """Refuse what is not a tuple of a kind and as many parts."""
+    if not isinstance(move, tuple) or len(move) == 0 or not isinstance(move[0], str) or move[0] not in PARTS:
+        raise BadMove("there is no such kind of moves")
+    if len(move) != PARTS[move[0]]:
+        raise BadMove("not as many parts as this kind of moves has")
 
 
 def where_kept(nest, move):

@@ -3,7 +3,7 @@
 from loopsheds.errors import BadDifference, BadName, NoSolution, Unbounded, Unlike
 from loopsheds.systems import is_difference, is_side, read_names
 from loopsheds.tables import fewest_of, limit_of, pinned, solves, some_point, table_of, with_names, without
-from loopsheds.unions import absorbed, both_of, joined, outside, parted, simplified, subtracted
+from loopsheds.unions import absorbed, both_of, outside, parted, simplified, subtracted, united
 
 
 class Region:
@@ -43,7 +43,7 @@ class Region:
 
     def __sub__(self, other):
         _check_alike(self, other)
-        return region_of(self._names, joined(subtracted(self._tables, other._tables)))
+        return region_of(self._names, united(subtracted(self._tables, other._tables)))
 
     def __invert__(self):
         return region_of(self._names, outside(self._tables))

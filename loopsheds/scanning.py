@@ -11,7 +11,7 @@ from loopsheds.separating import ordered, separated
 from loopsheds.sums import cases_of
 from loopsheds.tables import fewest_of, limit_of, met, table_of, with_names, without
 from loopsheds.times import check_times
-from loopsheds.unions import both_of, joined, parted
+from loopsheds.unions import both_of, parted, united
 
 
 class Item:
@@ -73,7 +73,7 @@ def scanned(nest, times, counters, parts):
         gone = list(names.values())
         for table in all_runs(layout)[place]:
             nodes[place] = _node_by_times(row, _timed(table, names, counters, times[place]), names, sides)
-        for table in parted(joined(parts[place])):
+        for table in parted(united(parts[place])):
             found.append(Item(place, without(_timed(table, names, counters, times[place]), gone)))
     body = Scan(nodes, list(counters)).body_at(0, layout.base, found)
     return Nest(nest.sizes, nest.given, nest.rooms, nest.kept, body)

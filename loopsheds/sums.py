@@ -7,7 +7,7 @@ least of several highs, decides, the rest is parted into tables of which each kn
 from loopsheds.atoms import highs_of, lows_of, with_greatest, with_least
 from loopsheds.polynomials import Poly, summed
 from loopsheds.tables import fewest_of, lies_in, met, without
-from loopsheds.unions import cut_off, joined
+from loopsheds.unions import cut_off, united
 
 
 def endless_name(table, names):
@@ -98,4 +98,4 @@ def tidied(rows):
         key = (tuple(poly.terms.items()), poly.below)
         polys[key] = poly
         tables.setdefault(key, []).append(table)
-    return [(table, polys[key]) for key in polys for table in joined(tables[key])]
+    return [(table, polys[key]) for key in polys for table in united(tables[key])]

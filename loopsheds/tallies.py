@@ -9,7 +9,7 @@ from loopsheds.nests import bounds_of, check_place, node_at, sizes_system, state
 from loopsheds.regions import region_of
 from loopsheds.rewriting import nodes_around
 from loopsheds.tables import table_of
-from loopsheds.unions import joined, simplified
+from loopsheds.unions import simplified, united
 
 
 def work(nest, place, /):
@@ -58,7 +58,7 @@ def traffic(nest, path, /):
         tables.setdefault((going.reader[0], going.at_read), []).extend(going.further(0))
     found = Count(nest.sizes, [])
     for place, read in tables:
-        found = found + _counted(nest, layout.rows[place].counters, joined(tables[(place, read)]))
+        found = found + _counted(nest, layout.rows[place].counters, united(tables[(place, read)]))
     return found
 
 

@@ -47,7 +47,7 @@ def subtracted(tables, others):
 
 def outside(tables):
     """The union of all that is in none of the tables."""
-    return joined(subtracted([{}], absorbed(tables)))
+    return united(subtracted([{}], absorbed(tables)))
 
 
 def parted(tables):
@@ -76,7 +76,7 @@ def _lies_in_one(table, others):
     return False
 
 
-def joined(tables):
+def united(tables):
     """The same union, with one table in the place of two where that can be."""
     if len(tables) > MANY:
         return tables
@@ -115,4 +115,4 @@ def one_of(table, differences, other):
 
 def simplified(tables):
     """The same union with fewer tables where that is easily seen."""
-    return joined(absorbed(tables))
+    return united(absorbed(tables))
