@@ -73,7 +73,7 @@ def _are_cuts(cuts, many):
 
 
 def _where_wrong(nest, path, cuts):
-    parts = [("part", path, cut) for cut in reversed(cuts)]
+    parts = [("part", path, cut) for cut in reversed(list(cuts))]
     late = followed(nest, *parts)
     found = where_unlike(nest, late)
     for at in range(len(cuts) + 1):

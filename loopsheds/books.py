@@ -145,7 +145,7 @@ class Book:
         while sheet.before is not None:
             found.append(sheet.moves)
             sheet = sheet.before
-        return list(reversed(found))
+        return found[::-1]
 
     def alike(self, name):
         """The ascending list of the other names whose nests agree with a nest."""

@@ -3,9 +3,9 @@
 from loopsheds.doubling import twins
 from loopsheds.errors import BadName
 from loopsheds.faults import Doubled
-from loopsheds.layouts import Layout, marked, put_in_atom, valued, with_equal
+from loopsheds.layouts import Layout, marked, put_in_atom, valued, with_bounds, with_equal
 from loopsheds.needed import needed
-from loopsheds.nests import Nest
+from loopsheds.nests import Nest, bounds_of
 from loopsheds.parts import MOST_ROW, is_nest_name
 from loopsheds.separating import ordered, separated
 from loopsheds.sums import cases_of
@@ -43,7 +43,8 @@ class Scan:
             for case, low, high in cases_of(piece.table, counter):
                 inner = met(piece.table, case)
                 body = self.body_at(depth + 1, inner, _within(inner, [those[part] for part in piece.parts]))
-                found.extend(_guarded(context, case, (("loop", counter, (low,), (high,), False, body),)))
+                loop = ("loop", counter, (low,), (high,), False, body)
+                found.extend(_guarded(with_bounds(context, bounds_of([loop]), {}), case, (loop,)))
         return tuple(found)
 
 
@@ -127,9 +128,9 @@ def _place_of(item):
     return item.place
 
 
-def _guarded(context, case, nodes):
-    """The nodes, in a test if the case says more than is known of the context."""
-    differences = needed(context, fewest_of(case))
+def _guarded(known, case, nodes):
+    """The nodes, in a test if the case says more than is known; a loop's own bounds need not be tested."""
+    differences = needed(known, fewest_of(case))
     found = nodes
     for at in range(0, len(differences), MOST_ROW):
         found = (("test", tuple(differences[at:at + MOST_ROW]), found),)

@@ -123,8 +123,8 @@ def broken_pair(nest, path, delays, /):
     for touch in Row(nest, path).broken(delays):
         names = [name for name, _ in (*touch.one[1], *touch.other[1])]
         point = least_point(touch.table, [*nest.sizes, *names])
-        runs = [(place, values_at(point, atoms)) for place, atoms in (touch.one, touch.other)]
-        return (sizes_at(point, nest.sizes), runs[0], runs[1])
+        pair = [(place, values_at(point, atoms)) for place, atoms in (touch.one, touch.other)]
+        return (sizes_at(point, nest.sizes), *pair)
     return None
 
 
