@@ -8,7 +8,7 @@ from loopsheds.sources import source_cases
 
 
 class Going:
-    """A table of the reads of a statement in a loop whose source is a run of the same entry.
+    """A table of the reads of a statement in a loop whose source is a run of the same entry, or None.
 
     `source` and `reader` are pairs of a place and the atoms of the counters; `sent` and `met` are the atoms of
     their rounds.
@@ -43,6 +43,5 @@ def goings(nest, layout, path):
                         entry = table
                         for one, other in zip(own[:loop.depth], told[2]):
                             entry = with_equal(entry, one, other)
-                        if entry is not None:
-                            found.append(Going(entry, (told[1], told[2]), (place, own), read, loop.depth))
+                        found.append(Going(entry, (told[1], told[2]), (place, own), read, loop.depth))
     return found

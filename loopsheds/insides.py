@@ -40,8 +40,6 @@ def leaving(nest, /):
     layout = Layout(nest)
     outings = _outings(nest, layout)
     sizes = least_sizes(sizes_of([outing.table for outing in outings], nest.sizes), nest.sizes)
-    if sizes is None:
-        return None
     for outing in outings:
         table = _at_sizes(outing.table, sizes)
         if table is not None:

@@ -36,9 +36,8 @@ def _turned(layout, times, place, other):
     found = []
     for atoms, other_atoms in shared_accesses(row, other_row):
         part = with_row(table, atoms, names, other_atoms, other_names)
-        if part is not None:
-            for early in ahead_of(part, (row, atoms_of(row, names)), (other_row, atoms_of(other_row, other_names))):
-                found.extend(_not_later(early, others, ones, place < other))
+        for early in ahead_of(part, (row, atoms_of(row, names)), (other_row, atoms_of(other_row, other_names))):
+            found.extend(_not_later(early, others, ones, place < other))
     return found
 
 

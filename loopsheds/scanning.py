@@ -4,7 +4,7 @@ from loopsheds.doubling import twins
 from loopsheds.errors import BadName
 from loopsheds.faults import Doubled
 from loopsheds.layouts import Layout, marked, put_in_atom, valued, with_bounds, with_equal
-from loopsheds.needed import needed
+from loopsheds.needed import follows, needed
 from loopsheds.nests import Nest, bounds_of
 from loopsheds.parts import MOST_ROW, is_nest_name
 from loopsheds.separating import ordered, separated
@@ -42,6 +42,8 @@ class Scan:
         for piece in ordered(separated(shadows), counter):
             for case, low, high in cases_of(piece.table, counter):
                 inner = met(piece.table, case)
+                if follows(inner, (high[0], low[0], low[1] - high[1])):
+                    high = low
                 body = self.body_at(depth + 1, inner, _within(inner, [those[part] for part in piece.parts]))
                 loop = ("loop", counter, (low,), (high,), False, body)
                 found.extend(_guarded(with_bounds(context, bounds_of([loop]), {}), case, (loop,)))

@@ -156,7 +156,7 @@ def _meetings_of(layout, reader, table, told, position):
             part = with_equal(with_equal(part, (WRITTEN, 0), written[position]), (READ, 0), atoms[position])
             part = with_bounds(part, layout.systems[other], names)
             middle = (other_row, atoms_of(other_row, names))
-            for early in [] if part is None else ahead_of(part, begin, middle):
+            for early in ahead_of(part, begin, middle):
                 for between in ahead_of(early, middle, ends):
                     found.append(Meeting(between, (told[1], told[2]), (place, ends[1]), read, (other, middle[1])))
     return found

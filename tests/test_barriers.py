@@ -11,7 +11,7 @@ from loopsheds.moves import moved
 from loopsheds.nests import Nest
 from loopsheds.reading import read_nest
 from tests.makers import families
-from tests.nesting import failing, paths_of, small_sizes
+from tests.nesting import failing, small_sizes
 from tests.test_freedom import Tale
 
 STEPS = read_nest('sizes n\nkeep c\nup i from 1 to n\n  f(i): a[i] = b[i]\n  g(i): c[i] = a[i - 1]\n')
@@ -161,7 +161,10 @@ class CutsTest(unittest.TestCase):
         deep = read_nest('sizes n\nkeep c\nwhen 0 <= n\n  up j from 0 to 1\n    up i from 1 to n\n'
                          '      f(i, j): a[i] = b[i]\n      g(i, j): c[i] = a[i - 1]\n')
         self.assertEqual(fewest_cuts(deep, (0, 0, 0)).chosen, (1,))
-        self.assertEqual([path for path, node in paths_of(deep) if node[0] == "loop"], [(0, 0), (0, 0, 0)])
+        late = read_nest('sizes n\nkeep c\nf(0): c[0] = b[0]\nup j from 0 to 1\n  k(j): d[j] =\n  g(j): d[j] =\n'
+                         '  up i from 1 to n\n    h(i, j): a[i] = b[i]\n    l(i, j): c[i] = a[i - 1]\n')
+        self.assertEqual((fewest_cuts(late, (1, 2)).chosen, fewest_cuts(late, (1, 2)).against), ((1,), {(): {"n": 2}}))
+        self.assertEqual(where_cut(late, (1, 2), ()).spread("n"), [(0, 1)])
 
 
 if __name__ == "__main__":

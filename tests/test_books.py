@@ -43,7 +43,7 @@ class BookTest(unittest.TestCase):
         book = Book(walk=WALK, free=FREE)
         self.assertEqual((len(book), book.titles), (2, ["free", "walk"]))
         self.assertTrue("walk" in book and "free" in book)
-        for thing in ("run", 1, None, ("walk",), True):
+        for thing in ("run", 1, None, ("walk",), True, ["walk"], {}):
             self.assertNotIn(thing, book)
         book["run"] = OTHER
         self.assertEqual((len(book), book.titles, write_nest(book["run"])), (3, ["free", "run", "walk"], write_nest(OTHER)))

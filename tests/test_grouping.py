@@ -106,6 +106,15 @@ class GroupsTest(unittest.TestCase):
                 call(TWICE, (0,), 2)
             self.assertEqual(caught.exception.label, "f")
 
+    def test_other_nodes_beside_them(self):
+        nest = read_nest('sizes n\nup j from 0 to n\n  up k from 5 to n\n    f(j, k): c[k] =\n  up i from 0 to n\n'
+                         '    g(j, i): a[i] =\n  up i from 0 to n\n    h(j, i): b[i] = a[i]\n  k(j): t[] =\n')
+        self.assertEqual(fewest_loops(nest, (0, 1), 2).chosen, (2,))
+        self.assertTrue(Groups((2,), {}).shows(nest, (0, 1), 2))
+        for path, many in (((0, 0), 2), ((0, 1), 3), ((0, 2), 2), ((0, 3), 1)):
+            with self.assertRaises(NoMove):
+                fewest_loops(nest, path, many)
+
     def test_loops_have_to_be_alike(self):
         for other in ("up j from 0 to n", "down i from 0 to n", "up i from 1 to n", "up i from 0 to n, 3"):
             counter = other.split()[1]
@@ -183,6 +192,16 @@ class OrdersTest(unittest.TestCase):
             with self.assertRaises(Doubled) as caught:
                 call(nest, (0,), 2)
             self.assertEqual(caught.exception.label, "f")
+
+    def test_loops_with_other_children(self):
+        nest = read_nest('sizes n\nup i from 0 to n\n  up j from 0 to n\n    up k from 0 to n\n      f(i, j, k): t[] =\n'
+                         '    g(i, j): t[] =\n')
+        for path, many in (((0,), 3), ((0, 0), 2)):
+            with self.assertRaises(NoMove) as caught:
+                loop_orders(nest, path, many)
+            self.assertEqual(caught.exception.kind, "interchange")
+        self.assertEqual(loop_orders(nest, (0,), 2), [(0, 1), (1, 0)])
+        self.assertEqual(loop_orders(nest, (0, 0, 0), 1), [(0,)])
 
     def test_too_large(self):
         nest = read_nest('sizes n\nup i from 9000 to n\n  up j from i + 2000 to n\n    f(i, j): t[] =\n')

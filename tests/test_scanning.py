@@ -70,6 +70,20 @@ class ScanningTest(unittest.TestCase):
                          [("f", (0,)), ("f", (1,)), ("g", (1,)), ("g", (2,)), ("g", (3,)), ("f", (4,)), ("g", (4,))])
         self.assertEqual(len(list(runs(late, {"n": 1}))), 3)
 
+    def test_orders_in_a_ring(self):
+        nest = read_nest('sizes n, m\nwhen n == 3\n  f(0): t[] =\nwhen m == 3\n  g(0): t[] =\nwhen n == m + 3\n'
+                         '  h(0): t[] =\n')
+        times = [(("0", 1),), (("0", 2),), (("n", -3),)]
+        late = scan(nest, times, counters=("p",))
+        self.check(nest, late, times, ("p",), small_sizes(nest, 8))
+        self.assertEqual([[run.label for run in runs(late, {"n": n, "m": m})] for n, m in ((3, 3), (6, 3), (3, 0))],
+                         [["f", "g"], ["g", "h"], ["h", "f"]])
+
+    def test_loops_of_one_round(self):
+        nest = read_nest('sizes n, m\nwhen n == m\n  up i from n to m\n    f(i): a[i] =\n')
+        (loop,) = statements(scan(nest, [(("i", 0),)], counters=("p",)))[0].loops
+        self.assertEqual(loop[1], loop[2])
+
     def test_great_numbers(self):
         nest = read_nest('sizes n\nup i from -200 to n\n  f(i): a[i] =\nup i from 0 to n + 200\n  g(i): b[i] =\n')
         times = [(("i", 200),), (("i", -200),)]
@@ -148,6 +162,7 @@ class ScanErrorsTest(unittest.TestCase):
                                (("p", "q", "r"), None), ((), None), (["p", "q", "p"], "p")):
             self.refused(BadName, BLUR, times, counters, name)
         self.refused(BadName, read_nest('sizes n\n'), [], ("n",), "n")
+        self.refused(BadName, read_nest('sizes n\nf(): t[] =\n'), [(("n", 0),)], ("p", "q"), None)
 
     def test_doubled(self):
         self.refused(Doubled, BLUR, [(("i", 0),), (("0", 0),)], ("p",), "g")

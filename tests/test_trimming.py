@@ -90,6 +90,15 @@ class TrimTest(unittest.TestCase):
                                       "      when k <= j and i <= k + 1\n        f(i, j, k): a[k] =\n"),
                          "sizes n\nup i from 0 to n\n  f(i, i, i - 1): a[i - 1] =\n")
 
+    def test_loops_from_the_greatest_to_the_least_of_two(self):
+        text = "sizes n, m\nup i from n, m to n, m\n  f(i): a[i] =\n"
+        self.assertEqual(self.trimmed(text), text)
+
+    def test_bounds_that_are_lows_and_highs_stay(self):
+        self.assertEqual(self.trimmed("sizes n, m\ngiven n == m\nup i from n, m to n\n  f(i): a[i] =\n"
+                                      "up i from m, n to n\n  g(i): a[i] =\nup i from m to n, m\n  h(i): a[i] =\n"),
+                         "sizes n, m\ngiven n <= m\ngiven m <= n\nf(n): a[n] =\ng(n): a[n] =\nh(m): a[m] =\n")
+
     def test_what_stays(self):
         nest = read_nest("sizes n, m\ngiven m <= n + 2 and 0 <= n\nroom a[0 .. n]\nkeep a, b\nf(): a[0] =\n")
         late = trim(nest)
