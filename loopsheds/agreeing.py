@@ -29,24 +29,18 @@ class Verdict:
 
 def where_agree(first, second):
     """The region of the sizes at which two nests are asked and agree."""
-    check_comparable(first, second)
-    pair = Pair(first, second)
-    if pair.base is None:
-        return region_of(first.sizes, [])
-    return region_of(first.sizes, simplified(subtracted([pair.base], pair.all_unlike_sizes())))
+    return _pair_of(first, second).where_alike()
 
 
 def where_unlike(first, second):
     """The region of the sizes at which two nests are asked and do not agree."""
-    check_comparable(first, second)
-    pair = Pair(first, second)
+    pair = _pair_of(first, second)
     return region_of(first.sizes, [] if pair.base is None else pair.all_unlike_sizes())
 
 
 def agree(first, second):
     """The Verdict on two nests."""
-    check_comparable(first, second)
-    pair = Pair(first, second)
+    pair = _pair_of(first, second)
     unlike = [] if pair.base is None else [(kind, pair.unlike_sizes(kind)) for kind in KINDS]
     least = region_of(first.sizes, [table for _, tables in unlike for table in tables]).first_point()
     if least is None:
@@ -60,7 +54,13 @@ def _is_in(sizes, tables):
     return any(solves({**sizes, "0": 0}, table) for table in tables)
 
 
-def check_comparable(first, second):
+def _pair_of(first, second):
+    """Two nests that are compared; refuse two that cannot be compared, and one that is doubled."""
+    _check_comparable(first, second)
+    return Pair(first, second, Layout(first), Layout(second))
+
+
+def _check_comparable(first, second):
     """Refuse two nests that cannot be compared, or one that is doubled."""
     if first.sizes != second.sizes:
         raise Unlike("sizes")
@@ -85,14 +85,20 @@ def _forms_of(nest):
 
 
 class Pair:
-    """Two nests that are compared, and the sizes at which they are asked."""
+    """Two nests that are compared, each with a layout of its statements, and the sizes at which they are asked."""
 
-    def __init__(self, first, second):
+    def __init__(self, first, second, one, other):
         self.first = first
         self.second = second
-        self.one = Layout(first)
-        self.other = Layout(second)
+        self.one = one
+        self.other = other
         self.base = table_of([*sizes_system(first), *second.given])
+
+    def where_alike(self):
+        """The region of the sizes at which the nests are asked and agree."""
+        if self.base is None:
+            return region_of(self.first.sizes, [])
+        return region_of(self.first.sizes, simplified(subtracted([self.base], self.all_unlike_sizes())))
 
     def all_unlike_sizes(self):
         """The tables of the sizes at which the nests do not agree."""

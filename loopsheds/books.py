@@ -66,7 +66,7 @@ class Book:
         return sorted(list(self.sheets))
 
     def __getitem__(self, name):
-        return self.sheet_of(name).nest
+        return _copy_of(self.sheet_of(name).nest)
 
     def __setitem__(self, name, nest):
         if not is_nest_name(name) or not isinstance(nest, Nest):
@@ -106,7 +106,7 @@ class Book:
         """Take a nest out."""
         nest = self.sheet_of(name).nest
         self.sheets = {other: self.sheets[other] for other in self.sheets if other != name}
-        return nest
+        return _copy_of(nest)
 
     def move(self, name, *moves):
         """Do moves, if the nest agrees with what it was ahead of them, and return it."""
@@ -114,7 +114,7 @@ class Book:
         if not verdict:
             raise Changed(verdict.sizes)
         self.sheets = {**self.sheets, name: Sheet(late, self.sheets[name], moves)}
-        return late
+        return _copy_of(late)
 
     def force(self, name, *moves):
         """Do moves in any case, and return the verdict."""
@@ -163,9 +163,14 @@ class Book:
         return told
 
 
+def _copy_of(nest):
+    """A new nest with the same parts; those that a book has are known to nobody else."""
+    return Nest(nest.sizes, nest.given, nest.rooms, nest.kept, nest.body)
+
+
 def _first_sheet(nest):
     """The sheet of a copy of a nest to which nothing was done."""
-    return Sheet(Nest(nest.sizes, nest.given, nest.rooms, nest.kept, nest.body), None, ())
+    return Sheet(_copy_of(nest), None, ())
 
 
 def _agrees(nest, other):

@@ -42,7 +42,8 @@ class Story:
             turns.append(rounds[number][taken[number]])
             taken[number] = taken[number] + 1
         first = min(turns)
-        return [*range(first), *turns, *range(first + len(turns), len(self.told))]
+        positions = self.positions()
+        return [*positions[:first], *turns, *positions[first + len(turns):]]
 
     def sources_of(self, positions):
         """The sources of the reads of all runs, and the last writers of the kept cells, if the runs go so."""

@@ -33,7 +33,7 @@ def axes_of(nest, array):
 def final_cases(nest, layout, array):
     """The cases of the last run that writes a cell: pairs of a table and what is told."""
     atoms = [(axis, 0) for axis in axes_of(nest, array)]
-    return last_writers(layout, view_behind(layout, nest), array, atoms)
+    return last_writers(layout, view_behind(layout), array, atoms)
 
 
 def needs(nest, array):
@@ -70,12 +70,12 @@ def unread(nest, place):
     layout = Layout(nest)
     row = layout.rows[place]
     table = layout.table_at(place)
-    used = [] if table is None else _used_runs(nest, layout, place)
+    used = [] if table is None else used_runs(nest, layout, place)
     rest = [] if table is None else subtracted([table], used)
     return region_of((*row.counters, *nest.sizes), simplified(rest))
 
 
-def _used_runs(nest, layout, place):
+def used_runs(nest, layout, place):
     """The tables of the runs of a statement that are the source of a read or the end of a kept cell."""
     array = layout.rows[place].target[0]
     found = []

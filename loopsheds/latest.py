@@ -40,9 +40,9 @@ def view_of(layout, place):
     return View(layout.table_at(place), row.path, row.levels, row.counters)
 
 
-def view_behind(layout, nest):
+def view_behind(layout):
     """The view of all cells at the end of a nest."""
-    return View(layout.base, (len(nest.body),), [], ())
+    return View(layout.base, layout.end, [], ())
 
 
 def last_writers(layout, view, array, atoms):

@@ -15,6 +15,7 @@ class Layout:
         self.systems = all_bounds(nest)
         self.sizes = nest.sizes
         self.base = table_of(sizes_system(nest))
+        self.end = (len(nest.body),)
 
     def table_at(self, place):
         """The closed table of a statement's bounds, or None."""

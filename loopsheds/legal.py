@@ -1,18 +1,23 @@
 """Times by which a nest may go."""
 
-from loopsheds.agreeing import where_agree
+from loopsheds.agreeing import Pair
 from loopsheds.atoms import in_order
 from loopsheds.layouts import (Layout, ahead_of, all_sizes, atoms_of, marked, put_in_atom, shared_accesses, sizes_of,
                                with_bounds, with_equal, with_row)
 from loopsheds.regions import region_of
-from loopsheds.scanning import scan
+from loopsheds.scanning import check_scan
+from loopsheds.timed import Timed
 from loopsheds.times import check_times
 from loopsheds.unions import simplified
 
 
 def where_legal(nest, times, /, *, counters):
-    """The region of the sizes at which the nest scanned by times agrees with the nest."""
-    return where_agree(nest, scan(nest, times, counters=counters))
+    """The region of the sizes at which the nest scanned by times agrees with the nest.
+
+    The scanned nest can be much larger than the nest, so the runs are compared as they go by the times.
+    """
+    check_scan(nest, times, counters)
+    return Pair(nest, nest, Layout(nest), Timed(nest, times, counters)).where_alike()
 
 
 def where_ordered(nest, times, /):

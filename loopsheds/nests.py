@@ -1,7 +1,7 @@
 """Nests of loops: their parts, their statements, and when these are run."""
 
 from loopsheds.faults import NoNode, NoPlace
-from loopsheds.parts import Census, check_heading
+from loopsheds.parts import check_body, check_heading, numbers_of
 from loopsheds.systems import is_whole
 
 
@@ -10,17 +10,18 @@ class Nest:
 
     def __init__(self, sizes, given, rooms, kept, body):
         check_heading(sizes, given, rooms, kept)
-        census = Census()
-        for array, pairs in rooms.items():
-            census.see_array(array, len(pairs))
-        census.see_body(body, sizes, 0)
+        check_body(body, sizes, 0)
+        nodes = [node for node, _, _ in _runs_in(body, (), ())]
+        labels = numbers_of([(node[1], (len(node[2]), len(node[4]))) for node in nodes])
+        indexes = [(array, len(atoms)) for node in nodes for array, atoms in (node[3], *node[4])]
+        arrays = numbers_of([*[(array, len(pairs)) for array, pairs in rooms.items()], *indexes])
         self.sizes = sizes
         self.given = given
         self.kept = kept
         self.body = body
         self._rooms = dict(rooms)
-        self._labels = sorted(census.forms_of)
-        self._arrays = {array: census.indexes_of[array] for array in sorted(census.indexes_of)}
+        self._labels = list(labels)
+        self._arrays = arrays
 
     @property
     def rooms(self):

@@ -81,62 +81,59 @@ def check_heading(sizes, given, rooms, kept):
     check_different(kept)
 
 
-class Census:
-    """The numbers of indexes of arrays, and of the atoms and reads of labels, as far as they were seen."""
+def numbers_of(facts):
+    """The ascending dict from the names in some facts to the numbers that are told of them; refuse two of one name.
 
-    def __init__(self):
-        self.indexes_of = {}
-        self.forms_of = {}
+    A fact is a pair of a name and what is told of it.
+    """
+    found = {}
+    for name, many in facts:
+        check(found.setdefault(name, many) == many)
+    return {name: found[name] for name in sorted(found)}
 
-    def see_array(self, array, many):
-        """Note an array's number of indexes; refuse another one."""
-        check(self.indexes_of.setdefault(array, many) == many)
 
-    def see_label(self, label, many):
-        """Note a label's pair of numbers; refuse another one."""
-        check(self.forms_of.setdefault(label, many) == many)
+def check_body(body, scope, around):
+    """Refuse a body that is not as it has to be in a scope, behind so many nodes around it."""
+    check(isinstance(body, tuple))
+    check(not body or around <= MOST_AROUND)
+    for node in body:
+        check(isinstance(node, tuple) and len(node) > 0 and isinstance(node[0], str))
+        if node[0] == "loop":
+            _check_loop(node, scope, around)
+        elif node[0] == "test":
+            _check_test(node, scope, around)
+        else:
+            check(node[0] == "run")
+            _check_run(node, scope)
 
-    def see_body(self, body, scope, around):
-        """Refuse a body that is not as it has to be in a scope, behind so many nodes around it."""
-        check(isinstance(body, tuple))
-        check(not body or around <= MOST_AROUND)
-        for node in body:
-            check(isinstance(node, tuple) and len(node) > 0 and isinstance(node[0], str))
-            if node[0] == "loop":
-                self.see_loop(node, scope, around)
-            elif node[0] == "test":
-                self.see_test(node, scope, around)
-            else:
-                check(node[0] == "run")
-                self.see_run(node, scope)
 
-    def see_loop(self, node, scope, around):
-        """Refuse a loop that is not as it has to be."""
-        check(len(node) == 6)
-        _, counter, lows, highs, down, body = node
-        check(is_nest_name(counter) and counter not in scope and isinstance(down, bool))
-        for row in (lows, highs):
-            check(is_row(row, 1, MOST_ROW) and are_atoms(row, scope, MOST_ROW))
-            check_different(row)
-        check(body != ())
-        self.see_body(body, (*scope, counter), around + 1)
+def _check_loop(node, scope, around):
+    """Refuse a loop that is not as it has to be."""
+    check(len(node) == 6)
+    _, counter, lows, highs, down, body = node
+    check(is_nest_name(counter) and counter not in scope and isinstance(down, bool))
+    for row in (lows, highs):
+        check(is_row(row, 1, MOST_ROW) and are_atoms(row, scope, MOST_ROW))
+        check_different(row)
+    check(body != ())
+    check_body(body, (*scope, counter), around + 1)
 
-    def see_test(self, node, scope, around):
-        """Refuse a test that is not as it has to be."""
-        check(len(node) == 3)
-        _, differences, body = node
-        check(is_row(differences, 1, MOST_ROW) and all(is_difference_of(entry, scope) for entry in differences))
-        check_different(differences)
-        check(body != ())
-        self.see_body(body, scope, around + 1)
 
-    def see_run(self, node, scope):
-        """Refuse a statement that is not as it has to be."""
-        check(len(node) == 5)
-        _, label, stamp, target, reads = node
-        check(is_nest_name(label) and are_atoms(stamp, scope, MOST_STAMP))
-        check(is_row(reads, 0, MOST_READS))
-        for access in (target, *reads):
-            check(is_row(access, 2, 2) and is_nest_name(access[0]) and are_atoms(access[1], scope, MOST_INDEXES))
-            self.see_array(access[0], len(access[1]))
-        self.see_label(label, (len(stamp), len(reads)))
+def _check_test(node, scope, around):
+    """Refuse a test that is not as it has to be."""
+    check(len(node) == 3)
+    _, differences, body = node
+    check(is_row(differences, 1, MOST_ROW) and all(is_difference_of(entry, scope) for entry in differences))
+    check_different(differences)
+    check(body != ())
+    check_body(body, scope, around + 1)
+
+
+def _check_run(node, scope):
+    """Refuse a statement that is not as it has to be."""
+    check(len(node) == 5)
+    _, label, stamp, target, reads = node
+    check(is_nest_name(label) and are_atoms(stamp, scope, MOST_STAMP))
+    check(is_row(reads, 0, MOST_READS))
+    for access in (target, *reads):
+        check(is_row(access, 2, 2) and is_nest_name(access[0]) and are_atoms(access[1], scope, MOST_INDEXES))

@@ -3,15 +3,16 @@
 from loopsheds.doubling import twins
 from loopsheds.errors import BadName
 from loopsheds.faults import Doubled
-from loopsheds.layouts import Layout, marked, put_in_atom, valued, with_bounds, with_equal
+from loopsheds.layouts import Layout, with_bounds
 from loopsheds.needed import follows, needed
 from loopsheds.nests import Nest, bounds_of
 from loopsheds.parts import MOST_ROW, is_nest_name
 from loopsheds.separating import ordered, separated
 from loopsheds.sums import cases_of
-from loopsheds.tables import fewest_of, limit_of, met, table_of, with_names, without
+from loopsheds.tables import fewest_of, met, table_of, without
+from loopsheds.timed import node_by_times, table_by_times
 from loopsheds.times import check_times
-from loopsheds.unions import both_of, parted, united
+from loopsheds.unions import both_of, parted, simplified
 
 
 class Item:
@@ -31,11 +32,9 @@ class Scan:
 
     def body_at(self, depth, context, those):
         """The body, with loops from a depth on, that makes the runs of some items where a table holds."""
-        found = []
         if depth == len(self.counters):
-            for item in sorted(those, key=_place_of):
-                found.extend(_guarded(context, item.table, (self.nodes[item.place],)))
-            return tuple(found)
+            return self.runs_at(context, those)
+        found = []
         counter = self.counters[depth]
         later = self.counters[depth + 1:]
         shadows = [without(item.table, later) for item in those]
@@ -49,37 +48,38 @@ class Scan:
                 found.extend(_guarded(with_bounds(context, bounds_of([loop]), {}), case, (loop,)))
         return tuple(found)
 
+    def runs_at(self, context, those):
+        """The runs of some items at one time, each once; a statement's items may overlap."""
+        found = []
+        for place in sorted(set([item.place for item in those])):
+            tables = [item.table for item in those if item.place == place]
+            for table in parted(simplified(tables)):
+                found.extend(_guarded(context, table, (self.nodes[place],)))
+        return tuple(found)
+
 
 def scan(nest, times, /, *, counters, regions=None):
     """The nest that makes the runs of a nest in the order of times."""
+    check_scan(nest, times, counters)
+    parts = all_runs(Layout(nest))
+    if regions is not None:
+        wanted = [[table_of(system) for system in region.pieces] for region in regions]
+        parts = [both_of(tables, others) for tables, others in zip(parts, wanted)]
+    return Nest(nest.sizes, nest.given, nest.rooms, nest.kept, scanned_body(nest, times, counters, parts))
+
+
+def check_scan(nest, times, counters):
+    """Refuse times that do not fit a nest or do not tell its runs apart, and counters that do not fit them."""
     check_times(nest, times)
-    _check_counters(nest, times, counters)
+    for at, name in enumerate(counters):
+        if not is_nest_name(name) or name in nest.sizes or name in counters[:at]:
+            raise BadName(name)
+    if len(times) > 0 and len(counters) != len(times[0]):
+        raise BadName(None)
     layout = Layout(nest)
     for place, row in enumerate(layout.rows):
         if twins(layout, place, times[place]):
             raise Doubled(row.label)
-    parts = all_runs(layout)
-    if regions is not None:
-        wanted = [[table_of(system) for system in region.pieces] for region in regions]
-        parts = [both_of(tables, others) for tables, others in zip(parts, wanted)]
-    return scanned(nest, times, counters, parts)
-
-
-def scanned(nest, times, counters, parts):
-    """The nest that makes, for each statement, the runs in some tables, in the order of times."""
-    layout = Layout(nest)
-    sides = (*counters, *nest.sizes, "0")
-    nodes = {}
-    found = []
-    for place, row in enumerate(layout.rows):
-        names = marked(row, "<")
-        gone = list(names.values())
-        for table in all_runs(layout)[place]:
-            nodes[place] = _node_by_times(row, _timed(table, names, counters, times[place]), names, sides)
-        for table in parted(united(parts[place])):
-            found.append(Item(place, without(_timed(table, names, counters, times[place]), gone)))
-    body = Scan(nodes, list(counters)).body_at(0, layout.base, found)
-    return Nest(nest.sizes, nest.given, nest.rooms, nest.kept, body)
 
 
 def all_runs(layout):
@@ -88,32 +88,17 @@ def all_runs(layout):
     return [[] if table is None else [table] for table in tables]
 
 
-def _timed(table, names, counters, atoms):
-    """The table of some runs, with other names for their counters, and with counters that have the times as values."""
-    found = with_names(table, {name: names.get(name, name) for name in table})
-    for counter, atom in zip(counters, atoms):
-        found = with_equal(found, (counter, 0), put_in_atom(atom, names))
-    return found
-
-
-def _node_by_times(row, table, names, sides):
-    """The node of a statement with atoms of times and sizes in the place of its counters."""
-    values = {counter: _equal_atom(table, names[counter], sides) for counter in row.counters}
-    accesses = [(array, _with_values(atoms, values)) for array, atoms in (row.target, *row.reads)]
-    return ("run", row.label, _with_values(row.stamp, values), accesses[0], tuple(accesses[1:]))
-
-
-def _equal_atom(table, name, sides):
-    """The atom with one of the sides that is always equal to a name; as times tell runs apart, there is one."""
-    for side in sides:
-        most = limit_of(table, name, side)
-        if most is not None and limit_of(table, side, name) == -most:
-            return (side, most)
-    return None
-
-
-def _with_values(atoms, values):
-    return tuple([valued(atom, values) for atom in atoms])
+def scanned_body(nest, times, counters, parts):
+    """The body that makes, for each statement, the runs in some tables, in the order of times."""
+    layout = Layout(nest)
+    nodes = {}
+    found = []
+    for place, row in enumerate(layout.rows):
+        for table in simplified(parts[place]):
+            found.append(Item(place, table_by_times(row, table, counters, times[place])))
+        for table in all_runs(layout)[place]:
+            nodes[place] = node_by_times(row, table, counters, times[place])
+    return Scan(nodes, list(counters)).body_at(0, layout.base, found)
 
 
 def _within(table, those):
@@ -126,10 +111,6 @@ def _within(table, those):
     return found
 
 
-def _place_of(item):
-    return item.place
-
-
 def _guarded(known, case, nodes):
     """The nodes, in a test if the case says more than is known; a loop's own bounds need not be tested."""
     differences = needed(known, fewest_of(case))
@@ -137,12 +118,3 @@ def _guarded(known, case, nodes):
     for at in range(0, len(differences), MOST_ROW):
         found = (("test", tuple(differences[at:at + MOST_ROW]), found),)
     return found
-
-
-def _check_counters(nest, times, counters):
-    """Refuse counters that are not as many different nest names as there are times."""
-    for at, name in enumerate(counters):
-        if not is_nest_name(name) or name in nest.sizes or name in counters[:at]:
-            raise BadName(name)
-    if len(times) > 0 and len(counters) != len(times[0]):
-        raise BadName(None)

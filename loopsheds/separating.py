@@ -27,21 +27,34 @@ def separated(tables):
 
 def _with_piece(pieces, piece):
     """Pieces without common solutions, and one more."""
+    late = piece
+    rest = pieces
+    at, both = _partner(late, rest)
+    while both is not None:
+        rest = [*rest[:at], *rest[at + 1:]]
+        late = both
+        at, both = _partner(late, rest)
+    found = []
+    differences = fewest_of(late.table)
+    for other in rest:
+        shared = met(other.table, late.table)
+        if shared is None:
+            found.append(other)
+            continue
+        found.append(Piece(shared, _all_parts(other, late)))
+        found.extend([Piece(table, other.parts) for table in cut_off(other.table, differences)])
+    alone = subtracted([late.table], [other.table for other in rest])
+    return [*found, *[Piece(table, late.parts) for table in alone]]
+
+
+def _partner(piece, pieces):
+    """The position of a piece that overlaps with this one and makes one with it, and that one; or None twice."""
     for at, other in enumerate(pieces):
         if met(other.table, piece.table) is not None:
             both = one_of(other.table, fewest_of(other.table), piece.table)
             if both is not None:
-                rest = [*pieces[:at], *pieces[at + 1:]]
-                return _with_piece(rest, Piece(both, _all_parts(other, piece)))
-    found = []
-    differences = fewest_of(piece.table)
-    for other in pieces:
-        shared = met(other.table, piece.table)
-        if shared is not None:
-            found.append(Piece(shared, _all_parts(other, piece)))
-        found.extend([Piece(table, other.parts) for table in cut_off(other.table, differences)])
-    rest = subtracted([piece.table], [other.table for other in pieces])
-    return [*found, *[Piece(table, piece.parts) for table in rest]]
+                return at, Piece(both, _all_parts(other, piece))
+    return None, None
 
 
 def _all_parts(piece, other):

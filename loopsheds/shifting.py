@@ -24,7 +24,7 @@ class Shifts:
 
     def __init__(self, least, gaps, barred):
         self.least = least
-        self.gaps = dict(gaps)
+        self.gaps = {pair: gaps[pair] for pair in gaps}
         self.barred = barred
 
     def __bool__(self):

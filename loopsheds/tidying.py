@@ -1,13 +1,12 @@
 """Nests scanned in their own order, without rounds that do nothing, and without some of their runs."""
 
 from loopsheds.errors import BadName
-from loopsheds.finals import unread
+from loopsheds.finals import used_runs
 from loopsheds.layouts import Layout
-from loopsheds.nests import statements
-from loopsheds.scanning import all_runs, scanned
+from loopsheds.scanning import all_runs, scanned_body
 from loopsheds.tables import table_of
 from loopsheds.times import check_ascending, order_times
-from loopsheds.trimming import trim
+from loopsheds.trimming import with_trimmed
 from loopsheds.unions import subtracted
 
 
@@ -33,9 +32,9 @@ def left_out(nest, regions, /):
 
 def without_unread(nest, /):
     """The tidy nest without the runs that no read has as its source and no kept cell ends with."""
-    rows = statements(nest)
-    check_ascending(rows)
-    return left_out(nest, {place: unread(nest, place) for place in range(len(rows))})
+    layout = Layout(nest)
+    check_ascending(layout.rows)
+    return _scanned_in_order(nest, [used_runs(nest, layout, place) for place in range(len(layout.rows))])
 
 
 def _scanned_in_order(nest, parts):
@@ -44,4 +43,4 @@ def _scanned_in_order(nest, parts):
     many = len(times[0]) if times else 0
     names = [f"t{at}" for at in range(many + len(nest.sizes))]
     counters = [name for name in names if name not in nest.sizes][:many]
-    return trim(scanned(nest, times, counters, parts))
+    return with_trimmed(nest, scanned_body(nest, times, counters, parts))

@@ -12,9 +12,17 @@ from loopsheds.unions import simplified, subtracted
 
 def trim(nest, /):
     """The nest with the same runs in which no node, bound and difference is needless."""
-    context = Layout(nest).base
-    body = () if context is None else _trimmed(nest.body, context)
-    return Nest(nest.sizes, nest.given, nest.rooms, nest.kept, body)
+    return with_trimmed(nest, nest.body)
+
+
+def with_trimmed(nest, body):
+    """The nest with another body in the place of its own, without what is needless in it.
+
+    The body alone may be too deep for a nest.
+    """
+    context = table_of(sizes_system(nest))
+    late = () if context is None else _trimmed(body, context)
+    return Nest(nest.sizes, nest.given, nest.rooms, nest.kept, late)
 
 
 def _trimmed(body, context):

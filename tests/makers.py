@@ -68,6 +68,34 @@ def towers(rng, depth):
     return around(rng, maker, body)
 
 
+def thickets(rng, deepest=4):
+    """A nest of up to four statements in up to eight loops, that go up, and up to eight tests."""
+    maker = Maker(rng, sizes=("n", "m", "q"), labels=LABELS)
+    goal = rng.randint(1, 4)
+    left = {"loops": 8, "tests": 8}
+
+    def children(scope):
+        found = []
+        while not found or (maker.many < goal and rng.random() < 0.5):
+            draw = rng.random()
+            if draw < 0.6 and left["loops"] and len(scope) < deepest:
+                left["loops"] -= 1
+                counter = f"c{len(scope)}"
+                rows = maker.row(scope, "lows"), maker.row(scope, "highs")
+                found.append(("loop", counter, *rows, False, children((*scope, counter))))
+            elif draw < 0.75 and left["tests"] and scope:
+                left["tests"] -= 1
+                tests = {maker.difference((*scope, *maker.sizes)): 1 for _ in range(rng.randint(1, 2))}
+                found.append(("test", tuple(tests), children(scope)))
+            else:
+                found.append(maker.run(scope))
+        return tuple(found)
+    body = []
+    while maker.many < goal:
+        body.extend(children(()))
+    return around(rng, maker, body)
+
+
 def with_rooms(rng, nest):
     """The nest with rooms for some of its arrays."""
     def pair():

@@ -249,6 +249,21 @@ class BookTest(unittest.TestCase):
         nest.body = WALK.body
         self.assertEqual(book["x"].body, ())
 
+    def test_nests_that_were_handed_out_do_not_matter(self):
+        book = Book(a=WALK)
+        handed = [book["a"], book.move("a", SHIFT), book["a"]]
+        try:
+            book.attempt(lambda draft: (handed.append(draft.take("a")), draft["none"]))
+        except NoNest:
+            pass
+        self.assertEqual(len(handed), 4)
+        before = texts(book)
+        for nest in handed:
+            nest.body, nest.kept = (), ()
+        self.assertEqual(texts(book), before)
+        book.undo("a")
+        self.assertEqual(book["a"].body, WALK.body)
+
 
 if __name__ == "__main__":
     unittest.main()

@@ -3,6 +3,7 @@
 import random
 import unittest
 
+from loopsheds.agreeing import where_agree
 from loopsheds.errors import BadName, BadTimes
 from loopsheds.faults import Doubled
 from loopsheds.legal import where_legal, where_ordered
@@ -75,10 +76,27 @@ class LegalTest(unittest.TestCase):
             ordered, legal = where_ordered(nest, times), where_legal(nest, times, counters=names)
             self.assertTrue(ordered.within(legal))
             late = scan(nest, times, counters=names)
-            for sizes in small_sizes(nest, 4 if len(nest.sizes) == 1 else 3):
+            self.assertTrue(legal.same(where_agree(nest, late)))
+            for sizes in small_sizes(nest, 5 - len(nest.sizes)):
                 self.assertEqual(sizes in ordered, is_ordered(nest, times, sizes))
                 self.assertEqual(sizes in legal, not failing(nest, late, sizes))
             self.assertNotIn({name: -1 for name in nest.sizes}, legal)
+
+    def test_large_scanned_nests(self):
+        """Nests are compared by their runs, however many statements there are when one is scanned."""
+        lines = ["sizes n, m", "keep a"]
+        for at in range(6):
+            lines.append("  " * at + f"up c{at} from 0{f', c{at - 1} - 1, c0 - {at + 1}' if at else ''} to n, m")
+        lines.append("  " * 6 + "f(c0, c1, c2, c3, c4, c5): a[c5] = a[c5 - 1]")
+        nest = read_nest("\n".join(lines))
+        times = [(("c5", 0), *[(f"c{at}", 0) for at in range(5)])]
+        names = [f"p{at}" for at in range(6)]
+        late = scan(nest, times, counters=names)
+        self.assertGreater(len(statements(late)), 90)
+        legal = where_legal(nest, times, counters=names)
+        for sizes in ({"n": 0, "m": 5}, {"n": 5, "m": 0}, {"n": 1, "m": 1}, {"n": 2, "m": 1}, {"n": 2, "m": 2}):
+            self.assertEqual(sizes in legal, not failing(nest, late, sizes))
+        self.assertEqual(legal.fixed({"m": 7}).spread("n"), [(0, 0)])
 
     def test_errors(self):
         good = (("i", 0), ("0", 0))

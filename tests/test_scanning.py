@@ -1,6 +1,8 @@
 """[29]: nests scanned by times, and `check_times` of [28]."""
 
+import inspect
 import random
+import sys
 import unittest
 
 from loopsheds.errors import BadName, BadTimes
@@ -10,11 +12,13 @@ from loopsheds.reading import read_nest
 from loopsheds.regions import Region
 from loopsheds.running import runs
 from loopsheds.scanning import scan
+from loopsheds.separating import separated
+from loopsheds.tables import limit_of, table_of
 from loopsheds.times import order_times
 from loopsheds.trimming import empty_rounds
 from loopsheds.writing import write_nest
 from tests.helpers import random_system
-from tests.makers import families, neighbours, rounds_of, some_times, time_of, towers
+from tests.makers import families, neighbours, rounds_of, some_times, thickets, time_of, towers
 from tests.nesting import Maker, paths_of, small_sizes
 
 BLUR = read_nest("sizes n\nup i from 0 to n\n  f(i): t[i] = x[i]\n  when 1 <= i\n    g(i): b[i] = t[i], t[i - 1]\n")
@@ -70,6 +74,26 @@ class ScanningTest(unittest.TestCase):
                          [("f", (0,)), ("f", (1,)), ("g", (1,)), ("g", (2,)), ("g", (3,)), ("f", (4,)), ("g", (4,))])
         self.assertEqual(len(list(runs(late, {"n": 1}))), 3)
 
+    def test_regions_with_pieces_that_overlap(self):
+        three = [[("i", "0", 2)], [("0", "i", -1), ("i", "0", 3)], [("i", "0", 2), ("i", "n", -1)], [("n", "i", 0)]]
+        late = scan(BLUR, [(("i", 0),), (("i", 0),)], counters=("p",),
+                    regions=[Region(("i", "n"), three), Region.nothing(())])
+        for n in range(8):
+            wanted = [("f", (i,)) for i in range(n + 1) if i <= 3 or i == n]
+            self.assertEqual([run.name for run in runs(late, {"n": n})], wanted)
+
+    def test_many_pieces(self):
+        """Pieces are made one by one, however many there are, and not each within the next one."""
+        apart = [table_of([("i", "0", 2 * at), ("0", "i", -2 * at)]) for at in range(400)]
+        self.assertEqual(len(separated(apart)), 400)
+        most = sys.getrecursionlimit()
+        sys.setrecursionlimit(len(inspect.stack()) + 60)
+        try:
+            (piece,) = separated([*apart, table_of([("i", "0", 800), ("0", "i", 0)])])
+        finally:
+            sys.setrecursionlimit(most)
+        self.assertEqual((piece.parts, limit_of(piece.table, "i", "0")), (list(range(401)), 800))
+
     def test_orders_in_a_ring(self):
         nest = read_nest('sizes n, m\nwhen n == 3\n  f(0): t[] =\nwhen m == 3\n  g(0): t[] =\nwhen n == m + 3\n'
                          '  h(0): t[] =\n')
@@ -98,14 +122,14 @@ class ScanningTest(unittest.TestCase):
 
     def test_runs_at_small_sizes(self):
         rng = random.Random(29)
-        for turn in range(160):
-            nest = (Maker(rng).nest, lambda: neighbours(rng), lambda: families(rng),
-                    lambda: towers(rng, 3))[turn % 4]()
+        for turn in range(200):
+            nest = (Maker(rng).nest, lambda: neighbours(rng), lambda: families(rng), lambda: towers(rng, 3),
+                    lambda: thickets(rng, 3))[turn % 5]()
             if len(statements(nest)) > 4:
                 continue
             times = some_times(rng, nest)
             names = tuple(f"c{at}" for at in range(len(times[0])))
-            sizes = small_sizes(nest, 4 if len(nest.sizes) == 1 else 3)
+            sizes = small_sizes(nest, 5 - len(nest.sizes))
             self.check(nest, scan(nest, times, counters=names), times, names, sizes)
             regions = []
             for row in statements(nest):

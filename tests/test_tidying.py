@@ -11,9 +11,10 @@ from loopsheds.reading import read_nest
 from loopsheds.regions import Region
 from loopsheds.running import runs
 from loopsheds.tidying import left_out, tidy, without_unread
+from loopsheds.times import order_times
 from loopsheds.writing import write_nest
 from tests.helpers import random_system
-from tests.makers import families, neighbours, rounds_of, towers
+from tests.makers import families, neighbours, rounds_of, thickets, towers
 from tests.nesting import Maker, history, paths_of, small_sizes
 from tests.test_scanning import told
 from tests.test_trimming import needless
@@ -38,6 +39,24 @@ class TidyTest(unittest.TestCase):
             for late in (tidy(nest), left_out(nest, {}), without_unread(nest)):
                 self.assertEqual((late.body, late.given, late.kept), ((), nest.given, nest.kept))
 
+    def test_many_nodes_around(self):
+        """Sixteen nodes around a statement have times of 25 numbers."""
+        lines = ["sizes n, m", "keep a"]
+        for at in range(8):
+            indent = "    " * at
+            lines.append(f"{indent}up c{at} from {f'c{at - 1} - 1' if at else 0} to n")
+            lines.append(f"{indent}  when {f'c0 <= c{at} + 1' if at else 'c0 <= m'} and 0 <= c{at}")
+            if at in (2, 4, 6, 7):
+                stamp = ", ".join(f"c{inner}" for inner in range(at + 1))
+                lines.append(f"{indent}    s{at}({stamp}): a[c{at}] = a[c0 + 1]")
+        nest = read_nest("\n".join(lines))
+        self.assertEqual({len(row) for row in order_times(nest)}, {25})
+        late = tidy(nest)
+        self.assertEqual(needless(late), [])
+        for sizes in ({"n": 0, "m": 0}, {"n": 1, "m": 0}, {"n": 1, "m": 1}):
+            self.assertTrue(all(rounds_of(late, sizes).values()))
+            self.assertEqual(told(late, sizes), told(nest, sizes))
+
     def test_left_out(self):
         region = Region(("n", "i"), [[("n", "i", 1), ("0", "i", -1)]])
         late = left_out(BLUR, {0: region, 1: Region.whole(())})
@@ -55,7 +74,8 @@ class TidyTest(unittest.TestCase):
         rng = random.Random(301)
         seen = 0
         for turn in range(200):
-            nest = (Maker(rng).nest, lambda: neighbours(rng), lambda: families(rng), lambda: towers(rng, 3))[turn % 4]()
+            nest = (Maker(rng).nest, lambda: neighbours(rng), lambda: families(rng), lambda: towers(rng, 3),
+                    lambda: thickets(rng, 3))[turn % 5]()
             rows = statements(nest)
             if len(rows) > 4:
                 continue
@@ -78,7 +98,7 @@ class TidyTest(unittest.TestCase):
         rows = statements(nest)
         self.assertEqual(needless(late), [])
         self.assertFalse(any(node[0] == "loop" and node[4] for _, node in paths_of(late)))
-        for sizes in small_sizes(nest, 4 if len(nest.sizes) == 1 else 3):
+        for sizes in small_sizes(nest, 5 - len(nest.sizes)):
             wanted = [run for run in runs(nest, sizes) if run.place not in gone or
                       {**sizes, **dict(zip(rows[run.place].counters, run.counters))} not in gone[run.place]]
             self.assertEqual(told(late, sizes), [(run.name, run.writes, run.reads) for run in wanted])

@@ -12,7 +12,7 @@ from loopsheds.reading import read_nest
 from loopsheds.scanning import scan
 from loopsheds.trimming import empty_rounds, trim
 from loopsheds.writing import write_nest
-from tests.makers import families, neighbours, rounds_of, some_times, towers
+from tests.makers import families, neighbours, rounds_of, some_times, thickets, towers
 from tests.nesting import Maker, paths_of, small_sizes
 from tests.test_scanning import told
 
@@ -108,13 +108,14 @@ class TrimTest(unittest.TestCase):
     def test_runs_at_small_sizes(self):
         rng = random.Random(30)
         for turn in range(240):
-            nest = (Maker(rng).nest, lambda: neighbours(rng), lambda: families(rng), lambda: towers(rng, 3))[turn % 4]()
+            nest = (Maker(rng).nest, lambda: neighbours(rng), lambda: families(rng), lambda: towers(rng, 3),
+                    lambda: thickets(rng, 3))[turn % 5]()
             if turn % 5 == 0 and len(statements(nest)) <= 4:
                 times = some_times(rng, nest)
                 nest = scan(nest, times, counters=[f"p{at}" for at in range(len(times[0]))])
             late = trim(nest)
             self.assertEqual(needless(late), [])
-            for sizes in small_sizes(nest, 4 if len(nest.sizes) == 1 else 3):
+            for sizes in small_sizes(nest, 5 - len(nest.sizes)):
                 self.assertEqual(told(late, sizes), told(nest, sizes))
 
 
