@@ -33,7 +33,6 @@ def left_out(nest, regions, /):
 def without_unread(nest, /):
     """The tidy nest without the runs that no read has as its source and no kept cell ends with."""
     layout = Layout(nest)
-    check_ascending(layout.rows)
     return _scanned_in_order(nest, [used_runs(nest, layout, place) for place in range(len(layout.rows))])
 
 

@@ -13,19 +13,20 @@ class Timed:
 
     def __init__(self, nest, times, counters):
         layout = Layout(nest)
-        self.rows = []
-        self.systems = []
-        self.sizes = nest.sizes
-        self.base = layout.base
-        self.end = (1,)
         around = [("loop", counter, (), (), False, ()) for counter in counters]
+        rows = []
+        systems = []
         for place, row in enumerate(layout.rows):
             table = layout.table_at(place)
             if table is not None:
                 path = (*[0 for _ in counters], place)
-                node = node_by_times(row, table, counters, times[place])
-                self.rows.append(Statement(node, path, around))
-                self.systems.append(fewest_of(table_by_times(row, table, counters, times[place])))
+                rows.append(Statement(node_by_times(row, table, counters, times[place]), path, around))
+                systems.append(fewest_of(table_by_times(row, table, counters, times[place])))
+        self.rows = rows
+        self.systems = systems
+        self.sizes = nest.sizes
+        self.base = layout.base
+        self.end = (1,)
 
     def table_at(self, place):
         """The closed table of a statement's bounds."""

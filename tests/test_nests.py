@@ -111,7 +111,7 @@ class NestTest(unittest.TestCase):
             self.bad(kept=kept)
 
     def test_nodes(self):
-        for node in (3, None, (), ("stop",), (3,), list(RUN), ("run",), (("run",),), RUN + ((),), RUN[:4]):
+        for node in (3, None, (), ("stop",), ("stop", *RUN[1:]), (3,), list(RUN), ("run",), (("run",),), RUN + ((),), RUN[:4]):
             self.bad(node)
             self.bad(loop("i", node))
         with self.assertRaises(BadNest):

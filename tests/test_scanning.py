@@ -114,6 +114,13 @@ class ScanningTest(unittest.TestCase):
         late = scan(nest, times, counters=("p",))
         self.check(nest, late, times, ("p",), [{"n": 0}, {"n": 3}, {"n": 150}])
 
+    def test_counters_that_times_do_not_have(self):
+        nest = read_nest('sizes n, m\nup i from n to n\n  up j from i + 2 to n + 2\n    when n == m\n      up k from 3 to 3\n'
+                         '        f(i, j, k): a[i] = a[j + 1], a[k - 1]\n')
+        self.assertEqual(write_nest(scan(nest, [(("0", 5),)], counters=("p",))),
+                         'sizes n, m\nwhen m <= n and n <= m\n  up p from 5 to 5\n'
+                         '    f(n, n + 2, p - 2): a[n] = a[n + 3], a[p - 3]\n')
+
     def test_names_of_counters(self):
         nest = read_nest('sizes n\nup i from 0 to n\n  up j from i to n\n    f(i, j): a[i, j] =\n')
         late = scan(nest, [(("j", 0), ("i", 1))], counters=("i", "j"))

@@ -65,6 +65,12 @@ class TrimTest(unittest.TestCase):
         self.assertEqual(self.trimmed("sizes n\ndown i from 0 to n\n  up j from 0, i to n, i + 2, n + 1\n    f(i, j): a[i] =\n"),
                          "sizes n\ndown i from 0 to n\n  up j from i to n, i + 2\n    f(i, j): a[i] =\n")
 
+    def test_bounds_that_are_lows_and_highs_follow(self):
+        self.assertEqual(self.trimmed("sizes n, m\ngiven n <= m\nup i from n, m to n\n  f(i): a[i] =\n"),
+                         "sizes n, m\ngiven n <= m\nup i from m to n\n  f(i): a[i] =\n")
+        self.assertEqual(self.trimmed("sizes n, m\ngiven n <= m\nup i from m to n, m\n  f(i): a[i] =\n"),
+                         "sizes n, m\ngiven n <= m\nup i from m to n\n  f(i): a[i] =\n")
+
     def test_only_bounds_stay(self):
         self.assertEqual(self.trimmed("sizes n\nwhen n <= 3\n  up i from n to 3\n    f(i): a[i] =\n"),
                          "sizes n\nwhen n <= 3\n  up i from n to 3\n    f(i): a[i] =\n")
